@@ -119,8 +119,17 @@ func TestP1NoCallOfAServicePanics(t *testing.T) {
 		s, e = handout.Open(newDevice(t, api.MaxQuota), c)
 		wantNothing(t, "Open", e, s == nil)
 	}
-	s, _ := handout.Open(newDevice(t, api.MaxQuota), goodConfig())
-	callService(t, s)
+	for _, quota := range []int{0, 100, 1000, api.MaxQuota} {
+		d := newDevice(t, quota)
+		s := openOn(t, d, goodConfig())
+		callService(t, s)
+		d.Fuse(1)
+		callService(t, s)
+		d.Crash(0)
+		callService(t, s)
+		openOn(t, d, wideConfig())
+	}
+	callService(t, nil)
 }
 
 func TestP1ErrorNamedFirst(t *testing.T) {
@@ -168,6 +177,19 @@ func TestP2DevicesShareNothing(t *testing.T) {
 	wantErrno(t, "Swap of too much for this one", one.Swap(bytes), api.ErrFull)
 	wantErrno(t, "Swap by nothing", other.Swap(""), api.OK)
 	wantBytes(t, one, "safel", 5)
+}
+
+func TestP2ServicesShareNothing(t *testing.T) {
+	one, other := newService(t, goodConfig()), newService(t, wideConfig())
+	wantTaken(t, one, 1, api.Task{Key: "a", Payload: "one"})
+	wantTicket(t, other, 1, 0, 0, 0)
+	wantNoTask(t, other, 1)
+	wantNoGrant(t, one, 1, api.ErrTicket)
+	wantTaken(t, other, 1, api.Task{Key: "a", Payload: "other"})
+	wantState(t, one, 1, api.Pending, 0)
+	wantTicket(t, one, 1, 0, 0, 0)
+	wantGrant(t, one, 1, 1, 1, "one")
+	wantGrant(t, other, 1, 1, 1, "other")
 }
 
 func TestP2WhatWasReadStays(t *testing.T) {

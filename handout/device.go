@@ -9,6 +9,9 @@ type Device struct {
 	safe  int // how many of the bytes, the first ones, a crash leaves in any case
 	fuse  int // changes that the fuse lets through still; below 0: there is no fuse
 	dead  bool
+	// The service that is open here, if one is. Here, because a crash and
+	// the next Open close it.
+	opened *Service
 }
 
 // noFuse is not 0: a fuse that lets nothing through is there.
@@ -97,6 +100,7 @@ func (d *Device) Crash(keep int) {
 	d.bytes = d.bytes[:d.safe]
 	d.fuse = noFuse
 	d.dead = false
+	d.opened = nil
 }
 
 // isDead counts nil as dead too: NewDevice gives it beside an error, and a

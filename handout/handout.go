@@ -1,40 +1,193 @@
 // Package handout: queues of tasks, handed out under leases, and the device they stand on: see DOC.md.
 package handout
 
-import "handout/api"
+import (
+	"slices"
+
+	"handout/api"
+	"handout/journal"
+)
 
 // Service hands tasks out.
-type Service struct{}
+type Service struct {
+	device  *Device
+	config  api.Config
+	now     int          // ticks that have gone by
+	tasks   []task       // in the order of their numbers, from 1 on
+	polls   []*poll      // in the order of their tickets
+	tickets int          // that were given
+	room    []int        // of each queue
+	serves  int          // tasks that were handed out
+	served  map[lane]int // which one of these was a key's last
+}
 
 // Open opens the service on a device (P6).
-func Open(d *Device, c api.Config) (*Service, api.Errno) { return nil, api.OK }
+func Open(d *Device, c api.Config) (*Service, api.Errno) {
+	if d == nil || !isConfig(c) {
+		return nil, api.ErrArg
+	}
+	d.opened = nil
+	text, e := d.Read()
+	if e != api.OK {
+		return nil, e
+	}
+	s := newService(d, c)
+	whole, ok := journal.Scan(text, s.replay)
+	if !ok {
+		return nil, api.ErrBroken
+	}
+	if whole < len(text) {
+		// What would be written behind a torn call could not be read. (There
+		// is room: the calls that are whole take no less than their tasks.)
+		if e := d.Swap(gather(s.sendAll)); e != api.OK {
+			return nil, e
+		}
+	}
+	d.opened = s
+	return s, api.OK
+}
+
+func isConfig(c api.Config) bool {
+	return within(c.Queues, 1, api.MaxQueues) &&
+		within(c.Parts, 1, api.MaxParts) &&
+		within(c.Rate, 0, api.MaxRate) &&
+		within(c.Burst, 1, api.MaxBurst) &&
+		within(c.Attempts, 1, api.MaxAttempts) &&
+		within(c.Lease, 1, api.MaxTicks) &&
+		within(c.Wait, 0, api.MaxTicks) &&
+		within(c.Bond, 0, api.MaxTicks)
+}
+
+func newService(d *Device, c api.Config) *Service {
+	return &Service{
+		device: d,
+		config: c,
+		room:   slices.Repeat([]int{c.Burst}, c.Queues),
+		served: map[lane]int{},
+	}
+}
+
+// ready says what every call asks first (P6). The nil that Open gives beside
+// an error was never open.
+func (s *Service) ready() api.Errno {
+	if s == nil || s.device == nil || s.device.opened != s {
+		return api.ErrClosed
+	}
+	if s.device.isDead() {
+		return api.ErrDead
+	}
+	return api.OK
+}
+
+func (s *Service) hasQueue(queue int) bool {
+	return within(queue, 0, s.config.Queues-1)
+}
+
+func (s *Service) hasTask(id int) bool {
+	return within(id, 1, len(s.tasks))
+}
+
+func (s *Service) task(id int) *task {
+	return &s.tasks[id-1]
+}
 
 // Enqueue takes a task (P8).
-func (s *Service) Enqueue(t api.Task) (int, api.Errno) { return 0, api.OK }
+func (s *Service) Enqueue(t api.Task) (int, api.Errno) {
+	if e := s.ready(); e != api.OK {
+		return 0, e
+	}
+	switch {
+	case !isTask(t):
+		return 0, api.ErrArg
+	case !s.hasQueue(t.Queue):
+		return 0, api.ErrQueue
+	case len(s.tasks) >= api.MaxTasks:
+		return 0, api.ErrMany
+	case journal.Size(len(s.tasks)+1) > s.device.quota:
+		return 0, api.ErrFull
+	}
+	e := s.write(func(pieces chan<- string) {
+		s.take(t, pieces)
+		s.serve(pieces)
+	})
+	if e != api.OK {
+		return 0, e
+	}
+	return len(s.tasks), api.OK
+}
 
 // State tells where a task is, and how often it was handed out (P8).
-func (s *Service) State(id int) (int, int, api.Errno) { return 0, 0, api.OK }
+func (s *Service) State(id int) (int, int, api.Errno) {
+	if e := s.ready(); e != api.OK {
+		return 0, 0, e
+	}
+	if !s.hasTask(id) {
+		return 0, 0, api.ErrTask
+	}
+	t := s.task(id)
+	return t.where, t.times, api.OK
+}
 
 // Poll asks for a task (P9).
-func (s *Service) Poll(queue int, part int, worker int) (int, api.Errno) { return 0, api.OK }
+func (s *Service) Poll(queue int, part int, worker int) (int, api.Errno) {
+	if e := s.ready(); e != api.OK {
+		return 0, e
+	}
+	switch {
+	case !within(part, 0, s.config.Parts-1) || !within(worker, 0, api.MaxWorker):
+		return 0, api.ErrArg
+	case !s.hasQueue(queue):
+		return 0, api.ErrQueue
+	case len(s.polls) >= api.MaxPolls:
+		return 0, api.ErrMany
+	}
+	s.tickets++
+	s.polls = append(s.polls, &poll{
+		ticket: s.tickets, queue: queue, part: part, worker: worker,
+		end: s.now + s.config.Wait, waits: true, answer: make(chan api.Grant, 1),
+	})
+	if e := s.write(s.serve); e != api.OK {
+		return 0, e
+	}
+	s.endPolls()
+	return s.tickets, api.OK
+}
 
 // Finish tells what came of a poll (P9).
-func (s *Service) Finish(ticket int) (api.Grant, api.Errno) { return api.Grant{}, api.OK }
+func (s *Service) Finish(ticket int) (api.Grant, api.Errno) {
+	if e := s.ready(); e != api.OK {
+		return api.Grant{}, e
+	}
+	i := slices.IndexFunc(s.polls, func(p *poll) bool { return p.ticket == ticket })
+	if i < 0 {
+		return api.Grant{}, api.ErrTicket
+	}
+	p := s.polls[i]
+	if p.waits {
+		return api.Grant{}, api.ErrWait
+	}
+	s.polls = slices.Delete(s.polls, i, i+1)
+	g, ok := <-p.answer
+	if !ok {
+		return api.Grant{}, api.ErrNone
+	}
+	return g, api.OK
+}
 
 // Complete ends a task (P12).
-func (s *Service) Complete(id int, token int) api.Errno { return api.OK }
+func (s *Service) Complete(id int, token int) api.Errno { return s.ready() }
 
 // Beat lets a lease last longer (P12).
-func (s *Service) Beat(id int, token int) api.Errno { return api.OK }
+func (s *Service) Beat(id int, token int) api.Errno { return s.ready() }
 
 // Fail gives a task back (P12).
-func (s *Service) Fail(id int, token int) api.Errno { return api.OK }
+func (s *Service) Fail(id int, token int) api.Errno { return s.ready() }
 
 // Tick lets time go on (P13).
-func (s *Service) Tick(n int) api.Errno { return api.OK }
+func (s *Service) Tick(n int) api.Errno { return s.ready() }
 
 // Buried tells the dead tasks of a queue (P14).
-func (s *Service) Buried(queue int) ([]int, api.Errno) { return nil, api.OK }
+func (s *Service) Buried(queue int) ([]int, api.Errno) { return nil, s.ready() }
 
 // Requeue brings a dead task back (P14).
-func (s *Service) Requeue(id int) api.Errno { return api.OK }
+func (s *Service) Requeue(id int) api.Errno { return s.ready() }

@@ -1,0 +1,316 @@
+package handout_test
+
+import (
+	"math/rand/v2"
+	"slices"
+	"sort"
+	"testing"
+
+	"handout/api"
+	"handout/handout"
+)
+
+// modelTask and the others are the service as the document tells it, without
+// a device, and held in another way than the service.
+type modelTask struct {
+	api.Task
+	bound           bool
+	where, times    int
+	attemptsOfLease int
+}
+
+type modelPoll struct {
+	ticket, queue, part, worker int
+	ended                       bool
+	task, attempt               int // 0: none
+}
+
+type modelService struct {
+	api.Config
+	tasks   []modelTask
+	polls   []modelPoll
+	tickets int
+	handed  []int    // how many tasks each queue has handed out
+	history []string // the queues and keys that were served, the last one last
+}
+
+func newModel(c api.Config, tasks []modelTask) *modelService {
+	return &modelService{Config: c, tasks: tasks, handed: make([]int, c.Queues)}
+}
+
+func (m *modelService) copy() *modelService {
+	n := *m
+	n.tasks, n.polls = slices.Clone(m.tasks), slices.Clone(m.polls)
+	n.handed, n.history = slices.Clone(m.handed), slices.Clone(m.history)
+	return &n
+}
+
+// opened is the model of the service that is opened next.
+func (m *modelService) opened(c api.Config) *modelService {
+	tasks := slices.Clone(m.tasks)
+	for i := range tasks {
+		tasks[i].bound = false
+		if tasks[i].where == api.Leased {
+			tasks[i].where = api.Dead
+			if tasks[i].times < tasks[i].attemptsOfLease {
+				tasks[i].where = api.Pending
+			}
+		}
+	}
+	return newModel(c, tasks)
+}
+
+func laneOf(t api.Task) string {
+	return string(rune('0'+t.Queue)) + t.Key
+}
+
+func (m *modelService) lastServed(t api.Task) int {
+	for i := len(m.history) - 1; i >= 0; i-- {
+		if m.history[i] == laneOf(t) {
+			return i
+		}
+	}
+	return -1
+}
+
+func (m *modelService) fitting(p modelPoll) []int {
+	var ids []int
+	for i, t := range m.tasks {
+		sum := 0
+		for _, b := range []byte(t.Key) {
+			sum += int(b)
+		}
+		mine := !t.bound || t.Worker == p.worker
+		if t.where == api.Pending && t.Queue == p.queue && sum%m.Parts == p.part && mine {
+			ids = append(ids, i+1)
+		}
+	}
+	return ids
+}
+
+func (m *modelService) serve() {
+	for i := range m.polls {
+		p := &m.polls[i]
+		ids := m.fitting(*p)
+		if p.ended || m.handed[p.queue] == m.Burst || len(ids) == 0 {
+			continue
+		}
+		sort.SliceStable(ids, func(a, b int) bool {
+			t, u := m.tasks[ids[a]-1], m.tasks[ids[b]-1]
+			if t.Priority == u.Priority {
+				return m.lastServed(t.Task) < m.lastServed(u.Task)
+			}
+			return t.Priority > u.Priority
+		})
+		t := &m.tasks[ids[0]-1]
+		t.where, t.times, t.attemptsOfLease = api.Leased, t.times+1, m.Attempts
+		p.ended, p.task, p.attempt = true, ids[0], t.times
+		m.handed[p.queue]++
+		m.history = append(m.history, laneOf(t.Task))
+	}
+}
+
+func (m *modelService) enqueue(t api.Task) (int, api.Errno) {
+	switch {
+	case t.Key == "" || len(t.Key) > 8 || t.Priority < 0 || t.Priority > 9 || len(t.Payload) > 40 || t.Worker < 0 || t.Worker > 99:
+		return 0, api.ErrArg
+	case t.Queue < 0 || t.Queue >= m.Queues:
+		return 0, api.ErrQueue
+	case len(m.tasks) == 300:
+		return 0, api.ErrMany
+	}
+	m.tasks = append(m.tasks, modelTask{Task: t, bound: t.Worker != 0 && m.Bond > 0})
+	m.serve()
+	return len(m.tasks), api.OK
+}
+
+func (m *modelService) poll(queue, part, worker int) (int, api.Errno) {
+	switch {
+	case part < 0 || part >= m.Parts || worker < 0 || worker > 99:
+		return 0, api.ErrArg
+	case queue < 0 || queue >= m.Queues:
+		return 0, api.ErrQueue
+	case len(m.polls) == 20:
+		return 0, api.ErrMany
+	}
+	m.tickets++
+	m.polls = append(m.polls, modelPoll{ticket: m.tickets, queue: queue, part: part, worker: worker})
+	m.serve()
+	if m.Wait == 0 {
+		m.polls[len(m.polls)-1].ended = true
+	}
+	return m.tickets, api.OK
+}
+
+func (m *modelService) finish(ticket int) (api.Grant, api.Errno) {
+	for i, p := range m.polls {
+		if p.ticket != ticket {
+			continue
+		}
+		if !p.ended {
+			return api.Grant{}, api.ErrWait
+		}
+		m.polls = slices.Delete(m.polls, i, i+1)
+		if p.task == 0 {
+			return api.Grant{}, api.ErrNone
+		}
+		return api.Grant{ID: p.task, Attempt: p.attempt, Payload: m.tasks[p.task-1].Payload}, api.OK
+	}
+	return api.Grant{}, api.ErrTicket
+}
+
+// like says whether a service tells the model's tasks.
+func (m *modelService) like(s *handout.Service) bool {
+	for i, t := range m.tasks {
+		if where, times, e := s.State(i + 1); where != t.where || times != t.times || e != api.OK {
+			return false
+		}
+	}
+	_, _, e := s.State(len(m.tasks) + 1)
+	return e == api.ErrTask
+}
+
+// run is a random run of calls, of the service and of its model.
+type run struct {
+	t      *testing.T
+	random *rand.Rand
+	quota  int
+	device *handout.Device
+	s      *handout.Service
+	m      *modelService
+	tokens map[[2]int]int // of a task
+	told   []string
+}
+
+func (r *run) config() api.Config {
+	n := r.random.IntN
+	return api.Config{
+		Queues: 1 + n(4), Parts: 1 + n(3), Rate: n(10), Burst: []int{1, 2, 5, 20}[n(4)],
+		Attempts: 1 + n(5), Lease: 1 + n(100), Wait: n(3), Bond: n(3),
+	}
+}
+
+func (r *run) task() api.Task {
+	n := r.random.IntN
+	t := api.Task{Queue: n(4), Key: string("abcde"[n(5)]), Priority: n(3), Payload: "p"[:n(2)], Worker: max(0, n(6)-3)}
+	switch n(30) {
+	case 0:
+		t.Priority = []int{-1, 10, 9}[n(3)]
+	case 1:
+		t.Worker = []int{-1, 100, 99}[n(3)]
+	case 2:
+		t.Key = []string{"", "123456789", "12345678"}[n(3)]
+	case 3:
+		t.Queue = []int{-1, 4, 9}[n(3)]
+	}
+	return t
+}
+
+// change makes a call that may write, with the device dying in it now and then.
+func (r *run) change(name string, call func() (int, api.Errno), model func(*modelService) (int, api.Errno)) {
+	r.told = append(r.told, name)
+	dies := r.random.IntN(6) == 0
+	if dies {
+		r.device.Fuse(r.random.IntN(3))
+	}
+	before := r.m.copy()
+	got, e := call()
+	if e == api.ErrFull && got == 0 && name == "Enqueue" && r.quota < 512+160*(len(before.tasks)+1) {
+		r.device.Fuse(-1)
+		return
+	}
+	want, f := model(r.m)
+	if e == api.ErrDead && got == 0 && dies {
+		r.crash(before)
+		return
+	}
+	r.device.Fuse(-1)
+	if got != want || e != f {
+		r.t.Fatalf("%v = %d, %d, want %d, %d", r.told, got, e, want, f)
+	}
+}
+
+// crash: the call before it is done as a whole, or not at all.
+func (r *run) crash(before *modelService) {
+	r.told = append(r.told, "Crash")
+	r.device.Crash(r.random.IntN(100) - 1)
+	if s, e := r.s.Enqueue(api.Task{}); s != 0 || e != api.ErrClosed {
+		r.t.Fatalf("%v: a call behind the crash = %d", r.told, e)
+	}
+	c := r.config()
+	r.s = openOn(r.t, r.device, c)
+	old, done := before.opened(c), r.m.opened(c)
+	switch {
+	case done.like(r.s):
+		r.m = done
+	case old.like(r.s):
+		r.m = old
+	default:
+		r.t.Fatalf("%v: behind the crash the service is neither %+v nor %+v", r.told, old, done)
+	}
+}
+
+// reopen: whatever answered OK is there.
+func (r *run) reopen(crash bool) {
+	r.told = append(r.told, "Open")
+	if crash {
+		r.device.Crash(-1)
+	}
+	c := r.config()
+	r.s = openOn(r.t, r.device, c)
+	r.m = r.m.opened(c)
+}
+
+func (r *run) finish() {
+	ticket := r.m.tickets - r.random.IntN(25) + 1
+	r.told = append(r.told, "Finish")
+	want, f := r.m.finish(ticket)
+	got, e := r.s.Finish(ticket)
+	token := got.Token
+	got.Token = 0
+	if got != want || e != f || (token > 0) != (e == api.OK) {
+		r.t.Fatalf("%v: Finish(%d) = %+v, %d, want %+v, %d", r.told, ticket, got, e, want, f)
+	}
+	r.tokens[[2]int{got.ID, token}]++
+	if e == api.OK && r.tokens[[2]int{got.ID, token}] > 1 {
+		r.t.Fatalf("%v: the token %d of the task %d comes again", r.told, token, got.ID)
+	}
+}
+
+func (r *run) step() {
+	n := r.random.IntN
+	switch k := n(20); {
+	case k < 6:
+		x := r.task()
+		r.change("Enqueue",
+			func() (int, api.Errno) { return r.s.Enqueue(x) },
+			func(m *modelService) (int, api.Errno) { return m.enqueue(x) })
+	case k < 14:
+		queue, part, worker := n(5)-n(2), n(4)-n(2), n(4)-n(2)
+		r.change("Poll",
+			func() (int, api.Errno) { return r.s.Poll(queue, part, worker) },
+			func(m *modelService) (int, api.Errno) { return m.poll(queue, part, worker) })
+	case k < 19:
+		r.finish()
+	case n(3) == 0:
+		r.reopen(n(2) == 0)
+	}
+	if !r.m.like(r.s) {
+		r.t.Fatalf("%v: the service is another one than %+v", r.told, r.m)
+	}
+}
+
+// TestP6ToP15RandomRuns holds random runs, with crashes in the middle of
+// calls, against the model.
+func TestP6ToP15RandomRuns(t *testing.T) {
+	for seed := range 600 {
+		random := rand.New(rand.NewPCG(uint64(seed), 1))
+		quota := []int{150, 400, 900, 4000, api.MaxQuota}[seed%5]
+		r := &run{t: t, random: random, quota: quota, device: newDevice(t, quota), tokens: map[[2]int]int{}}
+		c := r.config()
+		r.s, r.m = openOn(t, r.device, c), newModel(c, nil)
+		for range 250 {
+			r.step()
+		}
+	}
+}

@@ -1,0 +1,70 @@
+package handout
+
+import (
+	"handout/api"
+	"handout/journal"
+)
+
+// task is one that was taken. The worker in it is the one it is bound to.
+type task struct {
+	api.Task
+	where    int
+	times    int // that it was handed out
+	attempts int // by the config under which it was handed out last
+	token    int // of its last lease: they are counted, from 1 on
+	bondEnd  int // the tick that ends the bond
+	leaseEnd int // the tick that ends the lease
+}
+
+func isTask(t api.Task) bool {
+	return within(len(t.Key), 1, api.MaxKey) &&
+		within(t.Priority, 0, api.MaxPriority) &&
+		within(len(t.Payload), 0, api.MaxPayload) &&
+		within(t.Worker, 0, api.MaxWorker)
+}
+
+func within(n, least, most int) bool {
+	return least <= n && n <= most
+}
+
+// part is the partition of a key, of so many.
+func part(key string, parts int) int {
+	sum := 0
+	for i := range len(key) {
+		sum += int(key[i])
+	}
+	return sum % parts
+}
+
+// endLease puts the task where it comes when its lease is over (P11).
+func (t *task) endLease() {
+	t.where = api.Pending
+	if t.times >= t.attempts {
+		t.where = api.Dead
+	}
+}
+
+// record is the task as it is to be found behind a crash. Neither its bond nor
+// its lease outlasts that, so they are not in it.
+func (t *task) record() journal.Record {
+	return journal.Record{
+		Kind:    journal.Task,
+		Numbers: [5]int{t.Queue, t.Priority, t.times, t.attempts, t.token},
+		Texts:   [2]string{t.Key, t.Payload},
+	}
+}
+
+// taskOf makes the task of a record, with its lease over. It answers false,
+// if there can be no such task.
+func taskOf(r journal.Record) (task, bool) {
+	n := r.Numbers
+	t := task{
+		Task:  api.Task{Queue: n[0], Key: r.Texts[0], Priority: n[1], Payload: r.Texts[1]},
+		times: n[2], attempts: n[3], token: n[4],
+	}
+	if t.times > 0 {
+		t.endLease()
+	}
+	return t, isTask(t.Task) && t.Queue < api.MaxQueues &&
+		t.times <= t.token && t.times <= api.MaxAttempts && t.attempts <= api.MaxAttempts
+}
