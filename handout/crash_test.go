@@ -1,63 +1,120 @@
 package handout_test
 
 import (
+	"slices"
 	"testing"
 
 	"handout/api"
 	"handout/handout"
+	"handout/journal"
 )
 
 // dying is a run of calls up to one within which the device dies.
 type dying struct {
-	name  string
-	quota int
-	// before makes all calls but the last one.
-	before func(t *testing.T, s *handout.Service)
-	last   func(s *handout.Service) api.Errno
+	name   string
+	config api.Config
+	quota  int // fullQuota: what the calls before the last one have written, and no byte more
+	// before makes all calls but the last one, and tells the token of the
+	// lease that the last one is about.
+	before func(t *testing.T, s *handout.Service) int
+	last   func(s *handout.Service, token int) api.Errno
 	// Where the tasks are, and how often they were handed out: if the last
 	// call never was, and if it was done.
 	old, done [][2]int
+	silent    bool // the last call has nothing to write
 }
 
+const fullQuota = -1
+
+// oneLeased takes a task, and leases it.
+func oneLeased(t *testing.T, s *handout.Service) int {
+	wantTaken(t, s, 1, api.Task{Key: "a"})
+	wantTicket(t, s, 1, 0, 0, 0)
+	return wantGrant(t, s, 1, 1, 1, "")
+}
+
+func twoTasks(t *testing.T, s *handout.Service) int {
+	token := oneLeased(t, s)
+	wantTaken(t, s, 2, api.Task{Key: "b", Payload: "two"})
+	return token
+}
+
+func threeWaiting(t *testing.T, s *handout.Service) int {
+	token := oneLeased(t, s)
+	for ticket := 2; ticket <= 4; ticket++ {
+		wantTicket(t, s, ticket, 0, 0, 0)
+	}
+	return token
+}
+
+// dyings are those that die within Enqueue and Poll.
 func dyings() []dying {
-	enqueue := func(s *handout.Service) api.Errno {
+	enqueue := func(s *handout.Service, _ int) api.Errno {
 		id, e := s.Enqueue(api.Task{Key: "k", Payload: "last"})
 		if id != 0 && e != api.OK {
 			return -1
 		}
 		return e
 	}
-	poll := func(s *handout.Service) api.Errno {
+	poll := func(s *handout.Service, _ int) api.Errno {
 		ticket, e := s.Poll(0, 0, 0)
 		if ticket != 0 && e != api.OK {
 			return -1
 		}
 		return e
 	}
-	three := func(t *testing.T, s *handout.Service) {
-		wantTaken(t, s, 1, api.Task{Key: "a"})
-		wantPolled(t, s, 0, 1)
-		wantTaken(t, s, 2, api.Task{Key: "b", Payload: "two"})
-	}
-	waiting := func(t *testing.T, s *handout.Service) {
-		wantTaken(t, s, 1, api.Task{Key: "a"})
-		wantPolled(t, s, 0, 1)
-		wantTicket(t, s, 2, 0, 0, 0)
-		wantTicket(t, s, 3, 0, 0, 0)
-	}
-	none := func(t *testing.T, s *handout.Service) {}
-	p := api.Pending
+	none := func(t *testing.T, s *handout.Service) int { return 0 }
+	c, all, p := wideConfig(), api.MaxQuota, api.Pending
 	return []dying{
-		{"Enqueue on a new device", api.MaxQuota, none, enqueue, nil, [][2]int{{p, 0}}},
-		{"Enqueue on a device for one", 76, none, enqueue, nil, [][2]int{{p, 0}}},
-		{"Enqueue", api.MaxQuota, three, enqueue, [][2]int{{p, 1}, {p, 0}}, [][2]int{{p, 1}, {p, 0}, {p, 0}}},
-		{"Enqueue that is handed out", api.MaxQuota, waiting, enqueue, [][2]int{{p, 1}}, [][2]int{{p, 1}, {p, 1}}},
-		{"Enqueue on a device that is full", 202, three, enqueue, [][2]int{{p, 1}, {p, 0}}, [][2]int{{p, 1}, {p, 0}, {p, 0}}},
-		{"Enqueue that is handed out on a full device", 139, waiting, enqueue, [][2]int{{p, 1}}, [][2]int{{p, 1}, {p, 1}}},
-		{"Poll", api.MaxQuota, three, poll, [][2]int{{p, 1}, {p, 0}}, [][2]int{{p, 1}, {p, 1}}},
-		{"Poll on a device that is full", 153, three, poll, [][2]int{{p, 1}, {p, 0}}, [][2]int{{p, 1}, {p, 1}}},
-		{"Poll for nothing", api.MaxQuota, waiting, poll, [][2]int{{p, 1}}, [][2]int{{p, 1}}},
+		{"Enqueue on a new device", c, all, none, enqueue, nil, [][2]int{{p, 0}}, false},
+		{"Enqueue on a device for one", c, journal.Size(1), none, enqueue, nil, [][2]int{{p, 0}}, false},
+		{"Enqueue", c, all, twoTasks, enqueue, [][2]int{{p, 1}, {p, 0}}, [][2]int{{p, 1}, {p, 0}, {p, 0}}, false},
+		{"Enqueue that is handed out", c, all, threeWaiting, enqueue, [][2]int{{p, 1}}, [][2]int{{p, 1}, {p, 1}}, false},
+		{"Enqueue on a device that is full", c, journal.Size(3), twoTasks, enqueue, [][2]int{{p, 1}, {p, 0}}, [][2]int{{p, 1}, {p, 0}, {p, 0}}, false},
+		{"Enqueue that is handed out on a full device", c, journal.Size(2), threeWaiting, enqueue, [][2]int{{p, 1}}, [][2]int{{p, 1}, {p, 1}}, false},
+		{"Poll", c, all, twoTasks, poll, [][2]int{{p, 1}, {p, 0}}, [][2]int{{p, 1}, {p, 1}}, false},
+		{"Poll on a device that is full", c, fullQuota, twoTasks, poll, [][2]int{{p, 1}, {p, 0}}, [][2]int{{p, 1}, {p, 1}}, false},
+		{"Poll for nothing", c, all, threeWaiting, poll, [][2]int{{p, 1}}, [][2]int{{p, 1}}, true},
 	}
+}
+
+// dyingLeases are those that die when a lease ends.
+func dyingLeases() []dying {
+	complete := func(s *handout.Service, token int) api.Errno { return s.Complete(1, token) }
+	fail := func(s *handout.Service, token int) api.Errno { return s.Fail(1, token) }
+	tick := func(s *handout.Service, _ int) api.Errno { return s.Tick(3) }
+	c, once, short, shortTwice := wideConfig(), wideConfig(), wideConfig(), wideConfig()
+	once.Attempts = 1
+	short.Lease = 1
+	shortTwice.Lease, shortTwice.Attempts = 1, 2
+	all, p := api.MaxQuota, api.Pending
+	one := [][2]int{{p, 1}}
+	return []dying{
+		{"Complete", c, all, twoTasks, complete, [][2]int{{p, 1}, {p, 0}}, [][2]int{{api.Done, 1}, {p, 0}}, false},
+		{"Complete on a device that is full", c, fullQuota, oneLeased, complete, one, [][2]int{{api.Done, 1}}, false},
+		{"Complete at the last attempt", once, all, oneLeased, complete, [][2]int{{api.Dead, 1}}, [][2]int{{api.Done, 1}}, false},
+		{"Fail of what nobody waits for", c, all, oneLeased, fail, one, one, true},
+		{"Fail of what is handed out again", c, all, threeWaiting, fail, one, [][2]int{{p, 2}}, false},
+		{"Fail of what is handed out again on a full device", c, fullQuota, threeWaiting, fail, one, [][2]int{{p, 2}}, false},
+		{"Fail at the last attempt", once, all, threeWaiting, fail, [][2]int{{api.Dead, 1}}, [][2]int{{api.Dead, 1}}, true},
+		{"Tick within leases", c, all, threeWaiting, tick, one, one, true},
+		// Each of the three ticks hands out what the one before it has.
+		{"Tick", short, all, threeWaiting, tick, one, [][2]int{{p, 4}}, false},
+		{"Tick on a device that is full", short, fullQuota, threeWaiting, tick, one, [][2]int{{p, 4}}, false},
+		{"Tick to the last attempt", shortTwice, all, threeWaiting, tick, one, [][2]int{{api.Dead, 2}}, false},
+	}
+}
+
+// device has the quota for this run.
+func (c dying) device(t *testing.T) *handout.Device {
+	t.Helper()
+	if c.quota != fullQuota {
+		return newDevice(t, c.quota)
+	}
+	d := newDevice(t, api.MaxQuota)
+	c.before(t, openOn(t, d, c.config))
+	bytes, _ := d.Read()
+	return newDevice(t, len(bytes))
 }
 
 // has says whether these are all tasks of a service.
@@ -74,15 +131,15 @@ func has(s *handout.Service, tasks [][2]int) bool {
 // TestP15DiedWithinACall lets the device die at every change of a call, and
 // keeps of what was not safe every number of bytes.
 func TestP15DiedWithinACall(t *testing.T) {
-	for _, c := range dyings() {
+	for _, c := range slices.Concat(dyings(), dyingLeases()) {
 		seen := map[api.Errno]int{}
 		for fuse := range 4 {
 			for keep := -1; keep < 100; keep++ {
-				d := newDevice(t, c.quota)
-				s := openOn(t, d, wideConfig())
-				c.before(t, s)
+				d := c.device(t)
+				s := openOn(t, d, c.config)
+				token := c.before(t, s)
 				d.Fuse(fuse)
-				e := c.last(s)
+				e := c.last(s, token)
 				seen[e]++
 				d.Crash(keep)
 				s = openOn(t, d, wideConfig())
@@ -93,7 +150,7 @@ func TestP15DiedWithinACall(t *testing.T) {
 				wantWorks(t, d, s, len(c.old), len(c.done), whole)
 			}
 		}
-		if c.name != "Poll for nothing" && seen[api.ErrDead] == 0 || seen[api.OK] == 0 {
+		if c.silent == (seen[api.ErrDead] > 0) || seen[api.OK] == 0 {
 			t.Errorf("%s: answered %v", c.name, seen)
 		}
 	}
@@ -155,32 +212,51 @@ func TestP15CrashesWithinOpen(t *testing.T) {
 }
 
 // TestP15EveryBeginningOfTheBytes opens a service on every beginning of what
-// services have written by Append alone, which is what a crash can leave.
+// services have written by Append alone, which is what a crash can leave: of
+// each byte more comes back as much, or what one call more has done.
 func TestP15EveryBeginningOfTheBytes(t *testing.T) {
 	d := newDevice(t, api.MaxQuota)
 	s := openOn(t, d, wideConfig())
+	var after [][3]int
 	for id := 1; id <= 3; id++ {
+		after = append(after, tasksOf(s))
 		wantTaken(t, s, id, greatTask())
+		after = append(after, tasksOf(s))
 		wantTicket(t, s, id, 0, 0, api.MaxWorker)
+		after = append(after, tasksOf(s))
+		wantErrno(t, "Complete", s.Complete(id, wantGrant(t, s, id, id, 1, greatTask().Payload)), api.OK)
 	}
+	after = append(after, tasksOf(s))
 	bytes, _ := d.Read()
-	tasks := 0
+	call := 0
 	for cut := range len(bytes) + 1 {
 		d := newDevice(t, cut)
 		wantErrno(t, "Swap", d.Swap(bytes[:cut]), api.OK)
-		s := openOn(t, d, wideConfig())
-		n := 0
-		for ; n < 3; n++ {
-			if _, _, e := s.State(n + 1); e != api.OK {
-				break
-			}
+		got := tasksOf(openOn(t, d, wideConfig()))
+		if call+1 < len(after) && got == after[call+1] {
+			call++
 		}
-		if n < tasks || n > tasks+1 {
-			t.Errorf("of %d bytes %d tasks come back, of one byte less %d", cut, n, tasks)
+		if got != after[call] {
+			t.Fatalf("of %d bytes comes back %v, behind %v", cut, got, after[call])
 		}
-		tasks = n
 	}
-	if tasks != 3 {
-		t.Errorf("of all bytes %d tasks come back", tasks)
+	if call != len(after)-1 {
+		t.Errorf("of all bytes comes back %v", after[call])
+	}
+}
+
+// tasksOf counts a service's tasks: all, how often they were handed out, and those that are done.
+func tasksOf(s *handout.Service) [3]int {
+	var n [3]int
+	for id := 1; ; id++ {
+		where, times, e := s.State(id)
+		if e != api.OK {
+			return n
+		}
+		n[0]++
+		n[1] += times
+		if where == api.Done {
+			n[2]++
+		}
 	}
 }

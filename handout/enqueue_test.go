@@ -66,7 +66,7 @@ func TestP8TooManyTasks(t *testing.T) {
 func TestP8RoomForTasks(t *testing.T) {
 	c := wideConfig()
 	c.Bond = 0
-	for _, quota := range []int{0, 1, 12, 13, 60, 75, 76, 77, 138, 139, 140, 511, 512, 671, 672, 673, 831, 832, 1000, 2112, 5000} {
+	for _, quota := range []int{0, 1, 12, 13, 60, 76, 77, 78, 140, 141, 142, 511, 512, 671, 672, 673, 831, 832, 1000, 2112, 5000} {
 		d := newDevice(t, quota)
 		s := openOn(t, d, c)
 		n := 0

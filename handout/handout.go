@@ -175,16 +175,60 @@ func (s *Service) Finish(ticket int) (api.Grant, api.Errno) {
 }
 
 // Complete ends a task (P12).
-func (s *Service) Complete(id int, token int) api.Errno { return s.ready() }
+func (s *Service) Complete(id int, token int) api.Errno {
+	if e := s.leased(id, token); e != api.OK {
+		return e
+	}
+	return s.write(func(pieces chan<- string) { s.complete(id, pieces) })
+}
 
 // Beat lets a lease last longer (P12).
-func (s *Service) Beat(id int, token int) api.Errno { return s.ready() }
+func (s *Service) Beat(id int, token int) api.Errno {
+	if e := s.leased(id, token); e != api.OK {
+		return e
+	}
+	s.task(id).leaseEnd = s.now + s.config.Lease
+	return api.OK
+}
 
 // Fail gives a task back (P12).
-func (s *Service) Fail(id int, token int) api.Errno { return s.ready() }
+func (s *Service) Fail(id int, token int) api.Errno {
+	if e := s.leased(id, token); e != api.OK {
+		return e
+	}
+	s.task(id).endLease()
+	return s.write(s.serve)
+}
+
+// leased says what every call by a token asks first (P12).
+func (s *Service) leased(id int, token int) api.Errno {
+	if e := s.ready(); e != api.OK {
+		return e
+	}
+	if !s.hasTask(id) {
+		return api.ErrTask
+	}
+	if t := s.task(id); t.where != api.Leased || t.token != token {
+		return api.ErrStale
+	}
+	return api.OK
+}
 
 // Tick lets time go on (P13).
-func (s *Service) Tick(n int) api.Errno { return s.ready() }
+func (s *Service) Tick(n int) api.Errno {
+	if e := s.ready(); e != api.OK {
+		return e
+	}
+	if !within(n, 0, api.MaxTicks) {
+		return api.ErrArg
+	}
+	// One writing for all ticks: a crash must not leave some of them.
+	return s.write(func(pieces chan<- string) {
+		for range n {
+			s.tick(pieces)
+		}
+	})
+}
 
 // Buried tells the dead tasks of a queue (P14).
 func (s *Service) Buried(queue int) ([]int, api.Errno) { return nil, s.ready() }

@@ -86,22 +86,29 @@ func journalOf(records ...journal.Record) string {
 	return journal.Gather(pieces)
 }
 
-func taskRecord(queue, priority, times, attempts, token int, key string) journal.Record {
-	return journal.Record{Kind: journal.Task, Numbers: [5]int{queue, priority, times, attempts, token}, Texts: [2]string{key, "payload"}}
+func taskRecord(queue, priority, done, times, attempts, token int, key string) journal.Record {
+	return journal.Record{Kind: journal.Task, Numbers: [6]int{queue, priority, done, times, attempts, token}, Texts: [2]string{key, "payload"}}
 }
 
 func leaseRecord(id, attempts int) journal.Record {
-	return journal.Record{Kind: journal.Lease, Numbers: [5]int{id, attempts}}
+	return journal.Record{Kind: journal.Lease, Numbers: [6]int{id, attempts}}
+}
+
+func doneRecord(id int) journal.Record {
+	return journal.Record{Kind: journal.Done, Numbers: [6]int{id}}
 }
 
 // TestP6RecordsThatCannotBeAreBroken: whole records, but no service's.
 func TestP6RecordsThatCannotBeAreBroken(t *testing.T) {
-	good := taskRecord(3, 9, 2, 5, 2, "12345678")
+	good, fresh, done := taskRecord(3, 9, 0, 2, 5, 2, "12345678"), taskRecord(3, 9, 0, 0, 0, 0, "k"), taskRecord(3, 9, 1, 1, 5, 1, "k")
 	for _, records := range [][]journal.Record{
-		{taskRecord(4, 9, 2, 5, 2, "k")}, {taskRecord(3, 10, 2, 5, 2, "k")}, {taskRecord(3, 9, 6, 5, 6, "k")},
-		{taskRecord(3, 9, 2, 6, 2, "k")}, {taskRecord(3, 9, 2, 5, 1, "k")}, {taskRecord(3, 9, 2, 5, -1, "k")}, {taskRecord(3, 9, 2, 5, 2, "")},
+		{taskRecord(4, 9, 0, 2, 5, 2, "k")}, {taskRecord(3, 10, 0, 2, 5, 2, "k")}, {taskRecord(3, 9, 2, 2, 5, 2, "k")},
+		{taskRecord(3, 9, 1, 0, 5, 2, "k")}, {taskRecord(3, 9, 0, 6, 5, 6, "k")}, {taskRecord(3, 9, 0, 2, 0, 2, "k")},
+		{taskRecord(3, 9, 0, 2, 6, 2, "k")}, {taskRecord(3, 9, 0, 2, 5, 1, "k")}, {taskRecord(3, 9, 0, 2, 5, -1, "k")}, {taskRecord(3, 9, 0, 2, 5, 2, "")},
 		{leaseRecord(1, 5)}, {good, leaseRecord(0, 5)}, {good, leaseRecord(2, 5)}, {good, leaseRecord(1, 0)}, {good, leaseRecord(1, 6)},
-		{taskRecord(3, 9, 2, 2, 2, "k"), leaseRecord(1, 5)}, {good, leaseRecord(1, 1), leaseRecord(1, 5)},
+		{taskRecord(3, 9, 0, 2, 2, 2, "k"), leaseRecord(1, 5)}, {good, leaseRecord(1, 1), leaseRecord(1, 5)}, {done, leaseRecord(1, 5)},
+		{doneRecord(1)}, {good, doneRecord(0)}, {good, doneRecord(2)}, {fresh, doneRecord(1)}, {done, doneRecord(1)},
+		{good, doneRecord(1), doneRecord(1)}, {good, doneRecord(1), leaseRecord(1, 5)},
 		slices.Repeat([]journal.Record{good}, api.MaxTasks+1),
 	} {
 		d := newDevice(t, api.MaxQuota)
@@ -109,9 +116,15 @@ func TestP6RecordsThatCannotBeAreBroken(t *testing.T) {
 		wantNoService(t, fmt.Sprintf("%+v", records), d, goodConfig(), api.ErrBroken)
 	}
 	d := newDevice(t, api.MaxQuota)
-	wantErrno(t, "Swap", d.Swap(journalOf(append(slices.Repeat([]journal.Record{good}, api.MaxTasks), leaseRecord(300, 1))...)), api.OK)
+	records := append(slices.Repeat([]journal.Record{good}, api.MaxTasks), leaseRecord(300, 1), doneRecord(299), leaseRecord(298, 3), doneRecord(298))
+	records[1], records[2] = fresh, done
+	wantErrno(t, "Swap", d.Swap(journalOf(records...)), api.OK)
 	s := openOn(t, d, goodConfig())
 	wantState(t, s, 1, api.Pending, 2)
+	wantState(t, s, 2, api.Pending, 0)
+	wantState(t, s, 3, api.Done, 1)
+	wantState(t, s, 298, api.Done, 3)
+	wantState(t, s, 299, api.Done, 2)
 	wantState(t, s, 300, api.Dead, 3)
 }
 
@@ -120,10 +133,11 @@ func TestP6OtherBytes(t *testing.T) {
 	own := newDevice(t, 1000)
 	s := openOn(t, own, wideConfig())
 	wantTaken(t, s, 1, api.Task{Key: "k", Payload: "payload"})
-	wantPolled(t, s, 0, 1)
+	wantTicket(t, s, 1, 0, 0, 0)
+	wantErrno(t, "Complete", s.Complete(1, wantGrant(t, s, 1, 1, 1, "payload")), api.OK)
 	bytes, _ := own.Read()
 	for i := range len(bytes) {
-		for _, b := range []byte{0, 1, 5, 6, 127, 128, 255, 'T', 'L', 'E', bytes[i] + 1, bytes[i] - 1} {
+		for _, b := range []byte{0, 1, 5, 6, 127, 128, 255, 'T', 'L', 'D', 'E', bytes[i] + 1, bytes[i] - 1} {
 			d := newDevice(t, 1000)
 			d.Swap(bytes[:i] + string([]byte{b}) + bytes[i+1:])
 			s, e := handout.Open(d, goodConfig())
@@ -226,10 +240,11 @@ func TestP6WhatTellsOnlyChangesNothing(t *testing.T) {
 	d.Fuse(0)
 	wantState(t, s, 1, api.Leased, 1)
 	wantNoTask(t, s, 2)
-	wantGrant(t, s, 1, 1, 1, "x")
+	token := wantGrant(t, s, 1, 1, 1, "x")
 	wantNoGrant(t, s, 2, api.ErrWait)
 	wantNoGrant(t, s, 3, api.ErrTicket)
-	s.Beat(1, 1)
+	wantErrno(t, "Beat", s.Beat(1, token), api.OK)
+	wantErrno(t, "Beat by another token", s.Beat(1, token+1), api.ErrStale)
 	s.Buried(0)
 	wantBytes(t, d, bytes, len(bytes))
 }
@@ -268,7 +283,7 @@ func TestP7WhatOutlastsACrash(t *testing.T) {
 	s := openOn(t, d, wideConfig())
 	tasks := []api.Task{
 		{Key: "\x00", Payload: ""}, {Queue: 3, Key: "12345678", Priority: 9, Payload: strings.Repeat("\xff", 40), Worker: 99},
-		{Queue: 1, Key: "\xff\xfe", Priority: 4, Payload: "é世\x00"}, {Queue: 1, Key: "T", Priority: 5, Payload: "TLE"},
+		{Queue: 1, Key: "\xff\xfe", Priority: 4, Payload: "é世\x00"}, {Queue: 1, Key: "T", Priority: 5, Payload: "TLDE"},
 	}
 	for i, x := range tasks {
 		wantTaken(t, s, i+1, x)
@@ -282,7 +297,7 @@ func TestP7WhatOutlastsACrash(t *testing.T) {
 		wantState(t, s, i+1, api.Pending, 0)
 	}
 	wantTicket(t, s, 1, 1, 0, 0)
-	wantGrant(t, s, 1, 4, 1, "TLE")
+	wantGrant(t, s, 1, 4, 1, "TLDE")
 	wantTicket(t, s, 2, 1, 0, 0)
 	wantGrant(t, s, 2, 3, 1, "é世\x00")
 	wantTicket(t, s, 3, 3, 0, 7) // the bond to worker 99 has not outlasted the crash

@@ -107,10 +107,17 @@ func TestWaysNoGoroutineIsLeft(t *testing.T) {
 	for range 20 {
 		s := openOn(t, d, wideConfig())
 		for range api.MaxPolls {
-			s.Poll(0, 0, 0)
+			ticket, _ := s.Poll(0, 0, 0)
 			s.Enqueue(api.Task{Key: "k"})
 			s.Poll(1, 0, 0)
+			s.Tick(1)
+			if g, e := s.Finish(ticket); e == api.OK {
+				s.Beat(g.ID, g.Token)
+				s.Fail(g.ID, g.Token)
+				s.Complete(g.ID, g.Token+1)
+			}
 		}
+		s.Tick(api.MaxTicks)
 	}
 	// A goroutine that has done its work may need a moment to be gone.
 	for range 100 {

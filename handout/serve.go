@@ -85,24 +85,19 @@ func (t *task) lane() lane {
 // handOut leases a task.
 func (s *Service) handOut(id int, pieces chan<- string) api.Grant {
 	t := s.task(id)
-	t.where = api.Leased
-	t.times++
-	t.token++
-	t.attempts = s.config.Attempts
+	t.lease(s.config.Attempts)
 	t.leaseEnd = s.now + s.config.Lease
 	s.room[t.Queue]--
 	s.serves++
 	s.served[t.lane()] = s.serves
-	r := journal.Record{Kind: journal.Lease, Numbers: [5]int{id, t.attempts}}
+	r := journal.Record{Kind: journal.Lease, Numbers: [6]int{id, t.attempts}}
 	pieces <- r.Line()
 	return api.Grant{ID: id, Token: t.token, Attempt: t.times, Payload: t.Payload}
 }
 
-// endPolls ends those whose ticks have gone by.
-func (s *Service) endPolls() {
-	for _, p := range s.polls {
-		if p.waits && p.end <= s.now {
-			p.giveUp()
-		}
-	}
+// complete ends a task for good.
+func (s *Service) complete(id int, pieces chan<- string) {
+	s.task(id).where = api.Done
+	r := journal.Record{Kind: journal.Done, Numbers: [6]int{id}}
+	pieces <- r.Line()
 }

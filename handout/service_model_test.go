@@ -1,6 +1,7 @@
 package handout_test
 
 import (
+	"math"
 	"math/rand/v2"
 	"slices"
 	"sort"
@@ -14,15 +15,18 @@ import (
 // a device, and held in another way than the service.
 type modelTask struct {
 	api.Task
-	bound           bool
-	where, times    int
-	attemptsOfLease int
+	bondTicks, leaseTicks int // that are left
+	where, times          int
+	attemptsOfLease       int
+	lease                 int // its lease among all of the model, which are counted from 1 on
 }
 
 type modelPoll struct {
 	ticket, queue, part, worker int
+	ticks                       int // that are left
 	ended                       bool
-	task, attempt               int // 0: none
+	lease                       int
+	grant                       api.Grant // without a token
 }
 
 type modelService struct {
@@ -30,34 +34,41 @@ type modelService struct {
 	tasks   []modelTask
 	polls   []modelPoll
 	tickets int
-	handed  []int    // how many tasks each queue has handed out
+	room    []int
+	leases  int
 	history []string // the queues and keys that were served, the last one last
 }
 
-func newModel(c api.Config, tasks []modelTask) *modelService {
-	return &modelService{Config: c, tasks: tasks, handed: make([]int, c.Queues)}
+func newModel(c api.Config, tasks []modelTask, leases int) *modelService {
+	return &modelService{Config: c, tasks: tasks, leases: leases, room: slices.Repeat([]int{c.Burst}, c.Queues)}
 }
 
 func (m *modelService) copy() *modelService {
 	n := *m
 	n.tasks, n.polls = slices.Clone(m.tasks), slices.Clone(m.polls)
-	n.handed, n.history = slices.Clone(m.handed), slices.Clone(m.history)
+	n.room, n.history = slices.Clone(m.room), slices.Clone(m.history)
 	return &n
+}
+
+// leaseOver is what becomes of a task that was leased.
+func (t modelTask) leaseOver() modelTask {
+	t.where, t.leaseTicks, t.lease = api.Dead, 0, 0
+	if t.times < t.attemptsOfLease {
+		t.where = api.Pending
+	}
+	return t
 }
 
 // opened is the model of the service that is opened next.
 func (m *modelService) opened(c api.Config) *modelService {
 	tasks := slices.Clone(m.tasks)
 	for i := range tasks {
-		tasks[i].bound = false
+		tasks[i].bondTicks = 0
 		if tasks[i].where == api.Leased {
-			tasks[i].where = api.Dead
-			if tasks[i].times < tasks[i].attemptsOfLease {
-				tasks[i].where = api.Pending
-			}
+			tasks[i] = tasks[i].leaseOver()
 		}
 	}
-	return newModel(c, tasks)
+	return newModel(c, tasks, m.leases)
 }
 
 func laneOf(t api.Task) string {
@@ -80,7 +91,7 @@ func (m *modelService) fitting(p modelPoll) []int {
 		for _, b := range []byte(t.Key) {
 			sum += int(b)
 		}
-		mine := !t.bound || t.Worker == p.worker
+		mine := t.Worker == 0 || t.bondTicks == 0 || t.Worker == p.worker
 		if t.where == api.Pending && t.Queue == p.queue && sum%m.Parts == p.part && mine {
 			ids = append(ids, i+1)
 		}
@@ -92,7 +103,7 @@ func (m *modelService) serve() {
 	for i := range m.polls {
 		p := &m.polls[i]
 		ids := m.fitting(*p)
-		if p.ended || m.handed[p.queue] == m.Burst || len(ids) == 0 {
+		if p.ended || m.room[p.queue] == 0 || len(ids) == 0 {
 			continue
 		}
 		sort.SliceStable(ids, func(a, b int) bool {
@@ -103,9 +114,12 @@ func (m *modelService) serve() {
 			return t.Priority > u.Priority
 		})
 		t := &m.tasks[ids[0]-1]
+		m.leases++
 		t.where, t.times, t.attemptsOfLease = api.Leased, t.times+1, m.Attempts
-		p.ended, p.task, p.attempt = true, ids[0], t.times
-		m.handed[p.queue]++
+		t.lease, t.leaseTicks = m.leases, m.Lease
+		p.ended, p.lease = true, m.leases
+		p.grant = api.Grant{ID: ids[0], Attempt: t.times, Payload: t.Payload}
+		m.room[p.queue]--
 		m.history = append(m.history, laneOf(t.Task))
 	}
 }
@@ -119,7 +133,7 @@ func (m *modelService) enqueue(t api.Task) (int, api.Errno) {
 	case len(m.tasks) == 300:
 		return 0, api.ErrMany
 	}
-	m.tasks = append(m.tasks, modelTask{Task: t, bound: t.Worker != 0 && m.Bond > 0})
+	m.tasks = append(m.tasks, modelTask{Task: t, bondTicks: m.Bond})
 	m.serve()
 	return len(m.tasks), api.OK
 }
@@ -134,7 +148,7 @@ func (m *modelService) poll(queue, part, worker int) (int, api.Errno) {
 		return 0, api.ErrMany
 	}
 	m.tickets++
-	m.polls = append(m.polls, modelPoll{ticket: m.tickets, queue: queue, part: part, worker: worker})
+	m.polls = append(m.polls, modelPoll{ticket: m.tickets, queue: queue, part: part, worker: worker, ticks: m.Wait})
 	m.serve()
 	if m.Wait == 0 {
 		m.polls[len(m.polls)-1].ended = true
@@ -142,21 +156,69 @@ func (m *modelService) poll(queue, part, worker int) (int, api.Errno) {
 	return m.tickets, api.OK
 }
 
-func (m *modelService) finish(ticket int) (api.Grant, api.Errno) {
+// finish tells the lease beside the grant.
+func (m *modelService) finish(ticket int) (api.Grant, int, api.Errno) {
 	for i, p := range m.polls {
 		if p.ticket != ticket {
 			continue
 		}
 		if !p.ended {
-			return api.Grant{}, api.ErrWait
+			return api.Grant{}, 0, api.ErrWait
 		}
 		m.polls = slices.Delete(m.polls, i, i+1)
-		if p.task == 0 {
-			return api.Grant{}, api.ErrNone
+		if p.lease == 0 {
+			return api.Grant{}, 0, api.ErrNone
 		}
-		return api.Grant{ID: p.task, Attempt: p.attempt, Payload: m.tasks[p.task-1].Payload}, api.OK
+		return p.grant, p.lease, api.OK
 	}
-	return api.Grant{}, api.ErrTicket
+	return api.Grant{}, 0, api.ErrTicket
+}
+
+// byLease makes one of the three calls by a token, which is told by the lease
+// that it is of (0: none).
+func (m *modelService) byLease(call string, id, lease int) api.Errno {
+	if id < 1 || id > len(m.tasks) {
+		return api.ErrTask
+	}
+	t := &m.tasks[id-1]
+	if t.where != api.Leased || t.lease != lease {
+		return api.ErrStale
+	}
+	switch call {
+	case "Complete":
+		t.where = api.Done
+	case "Beat":
+		t.leaseTicks = m.Lease
+	case "Fail":
+		*t = t.leaseOver()
+		m.serve()
+	}
+	return api.OK
+}
+
+func (m *modelService) tick(n int) api.Errno {
+	if n < 0 || n > 100 {
+		return api.ErrArg
+	}
+	for ; n > 0; n-- {
+		for queue := range m.room {
+			m.room[queue] = min(m.room[queue]+m.Rate, m.Burst)
+		}
+		for i := range m.tasks {
+			t := &m.tasks[i]
+			t.bondTicks = max(0, t.bondTicks-1)
+			if t.leaseTicks--; t.where == api.Leased && t.leaseTicks == 0 {
+				*t = t.leaseOver()
+			}
+		}
+		m.serve()
+		for i := range m.polls {
+			p := &m.polls[i]
+			p.ticks--
+			p.ended = p.ended || p.ticks == 0
+		}
+	}
+	return api.OK
 }
 
 // like says whether a service tells the model's tasks.
@@ -178,7 +240,7 @@ type run struct {
 	device *handout.Device
 	s      *handout.Service
 	m      *modelService
-	tokens map[[2]int]int // of a task
+	leases map[[2]int]int // the model's lease of a task and its token
 	told   []string
 }
 
@@ -186,7 +248,7 @@ func (r *run) config() api.Config {
 	n := r.random.IntN
 	return api.Config{
 		Queues: 1 + n(4), Parts: 1 + n(3), Rate: n(10), Burst: []int{1, 2, 5, 20}[n(4)],
-		Attempts: 1 + n(5), Lease: 1 + n(100), Wait: n(3), Bond: n(3),
+		Attempts: 1 + n(5), Lease: []int{1, 2, 5, 100}[n(4)], Wait: []int{0, 1, 4, 100}[n(4)], Bond: []int{0, 1, 3, 100}[n(4)],
 	}
 }
 
@@ -261,38 +323,110 @@ func (r *run) reopen(crash bool) {
 	r.m = r.m.opened(c)
 }
 
+// finish changes nothing on the device: there is a fuse that would tell.
 func (r *run) finish() {
 	ticket := r.m.tickets - r.random.IntN(25) + 1
 	r.told = append(r.told, "Finish")
-	want, f := r.m.finish(ticket)
+	want, lease, f := r.m.finish(ticket)
+	r.device.Fuse(0)
 	got, e := r.s.Finish(ticket)
+	r.device.Fuse(-1)
 	token := got.Token
 	got.Token = 0
 	if got != want || e != f || (token > 0) != (e == api.OK) {
 		r.t.Fatalf("%v: Finish(%d) = %+v, %d, want %+v, %d", r.told, ticket, got, e, want, f)
 	}
-	r.tokens[[2]int{got.ID, token}]++
-	if e == api.OK && r.tokens[[2]int{got.ID, token}] > 1 {
+	if e != api.OK {
+		return
+	}
+	if r.leases[[2]int{got.ID, token}] > 0 {
 		r.t.Fatalf("%v: the token %d of the task %d comes again", r.told, token, got.ID)
 	}
+	r.leases[[2]int{got.ID, token}] = lease
+}
+
+// grant draws a task and a token: one that it had, mostly the last that was
+// told of it, or one that no service gives.
+func (r *run) grant() (int, int) {
+	id := r.random.IntN(len(r.m.tasks)+3) - 1
+	if r.random.IntN(10) == 0 {
+		return id, []int{0, -1, math.MaxInt, math.MinInt}[r.random.IntN(4)]
+	}
+	var tokens []int
+	for of := range r.leases {
+		if of[0] == id {
+			tokens = append(tokens, of[1])
+		}
+	}
+	if len(tokens) == 0 {
+		return id, 0
+	}
+	slices.SortFunc(tokens, func(a, b int) int { return r.leases[[2]int{id, a}] - r.leases[[2]int{id, b}] })
+	if r.random.IntN(4) == 0 {
+		return id, tokens[r.random.IntN(len(tokens))]
+	}
+	return id, tokens[len(tokens)-1]
+}
+
+func (r *run) byToken() {
+	id, token := r.grant()
+	lease := r.leases[[2]int{id, token}]
+	switch r.random.IntN(3) {
+	case 0:
+		r.change("Complete",
+			func() (int, api.Errno) { return 0, r.s.Complete(id, token) },
+			func(m *modelService) (int, api.Errno) { return 0, m.byLease("Complete", id, lease) })
+	case 1:
+		r.told = append(r.told, "Beat")
+		r.device.Fuse(0)
+		e, f := r.s.Beat(id, token), r.m.byLease("Beat", id, lease)
+		r.device.Fuse(-1)
+		if e != f {
+			r.t.Fatalf("%v(%d, %d) = %d, want %d", r.told, id, token, e, f)
+		}
+	default:
+		r.change("Fail",
+			func() (int, api.Errno) { return 0, r.s.Fail(id, token) },
+			func(m *modelService) (int, api.Errno) { return 0, m.byLease("Fail", id, lease) })
+	}
+}
+
+func (r *run) enqueue() {
+	x := r.task()
+	r.change("Enqueue",
+		func() (int, api.Errno) { return r.s.Enqueue(x) },
+		func(m *modelService) (int, api.Errno) { return m.enqueue(x) })
+}
+
+func (r *run) poll() {
+	n := r.random.IntN
+	queue, part, worker := n(5)-n(2), n(4)-n(2), n(4)-n(2)
+	r.change("Poll",
+		func() (int, api.Errno) { return r.s.Poll(queue, part, worker) },
+		func(m *modelService) (int, api.Errno) { return m.poll(queue, part, worker) })
+}
+
+func (r *run) tick() {
+	n := []int{0, 1, 1, 1, 2, 2, 3, 4, 100, 101, -1}[r.random.IntN(11)]
+	r.change("Tick",
+		func() (int, api.Errno) { return 0, r.s.Tick(n) },
+		func(m *modelService) (int, api.Errno) { return 0, m.tick(n) })
 }
 
 func (r *run) step() {
 	n := r.random.IntN
-	switch k := n(20); {
-	case k < 6:
-		x := r.task()
-		r.change("Enqueue",
-			func() (int, api.Errno) { return r.s.Enqueue(x) },
-			func(m *modelService) (int, api.Errno) { return m.enqueue(x) })
-	case k < 14:
-		queue, part, worker := n(5)-n(2), n(4)-n(2), n(4)-n(2)
-		r.change("Poll",
-			func() (int, api.Errno) { return r.s.Poll(queue, part, worker) },
-			func(m *modelService) (int, api.Errno) { return m.poll(queue, part, worker) })
+	switch k := n(40); {
+	case k < 9:
+		r.enqueue()
 	case k < 19:
+		r.poll()
+	case k < 28:
 		r.finish()
-	case n(3) == 0:
+	case k < 34:
+		r.byToken()
+	case k < 39:
+		r.tick()
+	case n(2) == 0:
 		r.reopen(n(2) == 0)
 	}
 	if !r.m.like(r.s) {
@@ -303,12 +437,12 @@ func (r *run) step() {
 // TestP6ToP15RandomRuns holds random runs, with crashes in the middle of
 // calls, against the model.
 func TestP6ToP15RandomRuns(t *testing.T) {
-	for seed := range 600 {
+	for seed := range 800 {
 		random := rand.New(rand.NewPCG(uint64(seed), 1))
 		quota := []int{150, 400, 900, 4000, api.MaxQuota}[seed%5]
-		r := &run{t: t, random: random, quota: quota, device: newDevice(t, quota), tokens: map[[2]int]int{}}
+		r := &run{t: t, random: random, quota: quota, device: newDevice(t, quota), leases: map[[2]int]int{}}
 		c := r.config()
-		r.s, r.m = openOn(t, r.device, c), newModel(c, nil)
+		r.s, r.m = openOn(t, r.device, c), newModel(c, nil, 0)
 		for range 250 {
 			r.step()
 		}

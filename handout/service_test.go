@@ -149,10 +149,14 @@ func calls() map[string]func(*handout.Service) (api.Errno, bool) {
 			g, e := s.Finish(99)
 			return e, g != api.Grant{}
 		},
-		"Complete": func(s *handout.Service) (api.Errno, bool) { return s.Complete(1, 1), false },
-		"Beat":     func(s *handout.Service) (api.Errno, bool) { return s.Beat(1, 1), false },
-		"Fail":     func(s *handout.Service) (api.Errno, bool) { return s.Fail(1, 1), false },
-		"Tick":     func(s *handout.Service) (api.Errno, bool) { return s.Tick(1), false },
+		"Complete":            func(s *handout.Service) (api.Errno, bool) { return s.Complete(1, 1), false },
+		"Complete of no task": func(s *handout.Service) (api.Errno, bool) { return s.Complete(99, 1), false },
+		"Beat":                func(s *handout.Service) (api.Errno, bool) { return s.Beat(1, 1), false },
+		"Beat of no task":     func(s *handout.Service) (api.Errno, bool) { return s.Beat(99, 1), false },
+		"Fail":                func(s *handout.Service) (api.Errno, bool) { return s.Fail(1, 1), false },
+		"Fail of no task":     func(s *handout.Service) (api.Errno, bool) { return s.Fail(99, 1), false },
+		"Tick":                func(s *handout.Service) (api.Errno, bool) { return s.Tick(1), false },
+		"Tick of no ticks":    func(s *handout.Service) (api.Errno, bool) { return s.Tick(-1), false },
 		"Buried": func(s *handout.Service) (api.Errno, bool) {
 			ids, e := s.Buried(0)
 			return e, len(ids) != 0

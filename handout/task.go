@@ -36,6 +36,14 @@ func part(key string, parts int) int {
 	return sum % parts
 }
 
+// lease hands the task out once more, by a config of so many attempts.
+func (t *task) lease(attempts int) {
+	t.where = api.Leased
+	t.times++
+	t.attempts = attempts
+	t.token++
+}
+
 // endLease puts the task where it comes when its lease is over (P11).
 func (t *task) endLease() {
 	t.where = api.Pending
@@ -47,9 +55,13 @@ func (t *task) endLease() {
 // record is the task as it is to be found behind a crash. Neither its bond nor
 // its lease outlasts that, so they are not in it.
 func (t *task) record() journal.Record {
+	done := 0
+	if t.where == api.Done {
+		done = 1
+	}
 	return journal.Record{
 		Kind:    journal.Task,
-		Numbers: [5]int{t.Queue, t.Priority, t.times, t.attempts, t.token},
+		Numbers: [6]int{t.Queue, t.Priority, done, t.times, t.attempts, t.token},
 		Texts:   [2]string{t.Key, t.Payload},
 	}
 }
@@ -58,13 +70,19 @@ func (t *task) record() journal.Record {
 // if there can be no such task.
 func taskOf(r journal.Record) (task, bool) {
 	n := r.Numbers
+	done, times, attempts, token := n[2], n[3], n[4], n[5]
 	t := task{
 		Task:  api.Task{Queue: n[0], Key: r.Texts[0], Priority: n[1], Payload: r.Texts[1]},
-		times: n[2], attempts: n[3], token: n[4],
+		times: times, attempts: attempts, token: token,
 	}
-	if t.times > 0 {
+	if times > 0 {
 		t.endLease()
 	}
+	if done == 1 {
+		t.where = api.Done
+	}
+	once := min(times, 1) // only what was handed out is done, or has had attempts
 	return t, isTask(t.Task) && t.Queue < api.MaxQueues &&
-		t.times <= t.token && t.times <= api.MaxAttempts && t.attempts <= api.MaxAttempts
+		done <= once && times <= api.MaxAttempts &&
+		within(attempts, once, api.MaxAttempts) && times <= token
 }

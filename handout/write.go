@@ -61,22 +61,31 @@ func (s *Service) take(t api.Task, pieces chan<- string) {
 // replay does again what a record tells. It answers false, if no service can
 // have written it here.
 func (s *Service) replay(r journal.Record) bool {
-	if r.Kind == journal.Task {
+	switch r.Kind {
+	case journal.Task:
 		t, ok := taskOf(r)
 		s.tasks = append(s.tasks, t)
 		return ok && len(s.tasks) <= api.MaxTasks
+	case journal.Lease:
+		return s.replayLease(r.Numbers[0], r.Numbers[1])
+	default:
+		return s.replayDone(r.Numbers[0])
 	}
-	return s.replayLease(r.Numbers[0], r.Numbers[1])
 }
 
 func (s *Service) replayLease(id, attempts int) bool {
 	if !s.hasTask(id) || s.task(id).where != api.Pending || !within(attempts, 1, api.MaxAttempts) {
 		return false
 	}
-	t := s.task(id)
-	t.times++
-	t.token++
-	t.attempts = attempts
-	t.endLease()
+	s.task(id).lease(attempts)
+	s.task(id).endLease()
+	return true
+}
+
+func (s *Service) replayDone(id int) bool {
+	if !s.hasTask(id) || s.task(id).times == 0 || s.task(id).where == api.Done {
+		return false
+	}
+	s.task(id).where = api.Done
 	return true
 }

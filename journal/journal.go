@@ -12,7 +12,7 @@ func Gather(pieces <-chan string) string {
 	if text.Len() == 0 {
 		return ""
 	}
-	last := Record{Kind: end, Numbers: [5]int{sum(text.String())}}
+	last := Record{Kind: end, Numbers: [6]int{sum(text.String())}}
 	text.WriteString(last.Line())
 	return text.String()
 }

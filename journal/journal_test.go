@@ -22,11 +22,15 @@ func write(pieces ...string) string {
 }
 
 func someTask() Record {
-	return Record{Task, [5]int{3, 9, 5, 4, 1 << 40}, [2]string{"12345678", strings.Repeat("\xff", api.MaxPayload)}}
+	return Record{Task, [6]int{3, 9, 1, 5, 4, 1 << 40}, [2]string{"12345678", strings.Repeat("\xff", api.MaxPayload)}}
 }
 
 func someLease(id int) Record {
-	return Record{Kind: Lease, Numbers: [5]int{id, 5}}
+	return Record{Kind: Lease, Numbers: [6]int{id, 5}}
+}
+
+func someDone(id int) Record {
+	return Record{Kind: Done, Numbers: [6]int{id}}
 }
 
 // scan reads a text and keeps the records.
@@ -41,9 +45,9 @@ func scan(text string) ([]Record, int, bool) {
 
 func TestRecordsComeBack(t *testing.T) {
 	records := []Record{
-		someTask(), someLease(1), someLease(api.MaxTasks),
-		{Task, [5]int{}, [2]string{"k", ""}},
-		{Task, [5]int{0, 0, 0, 0, math.MaxInt}, [2]string{"\x00", "TLE\x00"}},
+		someTask(), someLease(1), someLease(api.MaxTasks), someDone(1), someDone(api.MaxTasks),
+		{Task, [6]int{}, [2]string{"k", ""}},
+		{Task, [6]int{0, 0, 0, 0, 0, math.MaxInt}, [2]string{"\x00", "TLDE\x00"}},
 	}
 	text := Title
 	for _, r := range records {
@@ -90,7 +94,7 @@ func TestSizeIsThatOfAllTasks(t *testing.T) {
 func TestScanLeavesAtWhatIsNotWhole(t *testing.T) {
 	one := write(Title, someTask().Line(), someTask().Line())
 	two := write(someLease(1).Line())
-	three := write(someTask().Line(), someLease(2).Line(), someLease(3).Line())
+	three := write(someTask().Line(), someLease(2).Line(), someDone(3).Line())
 	text := one + two + three
 	for cut := range len(text) + 1 {
 		want, records := 0, 0
@@ -112,7 +116,7 @@ func TestScanLeavesAtWhatIsNotWhole(t *testing.T) {
 func TestScanRefusesWhatIsNoJournal(t *testing.T) {
 	call := write(Title, someTask().Line())
 	longKey := []byte(someTask().Line())
-	longKey[1+1+1+1+1+8] = api.MaxKey + 1
+	longKey[1+1+1+1+1+1+8] = api.MaxKey + 1
 	texts := map[string]string{
 		"other bytes":                     "x",
 		"a start and other bytes":         Title[:3] + "x",
@@ -148,7 +152,7 @@ func TestScanAsksWhoTakes(t *testing.T) {
 
 // TestScanEnds puts every byte in the place of every byte of a journal.
 func TestScanEnds(t *testing.T) {
-	text := write(Title, someTask().Line()) + write(someLease(1).Line())
+	text := write(Title, someTask().Line()) + write(someLease(1).Line()) + write(someDone(1).Line())
 	for i := range len(text) {
 		for b := range 256 {
 			if _, whole, ok := scan(text[:i] + string([]byte{byte(b)}) + text[i+1:]); !ok && whole != 0 || whole > len(text) {

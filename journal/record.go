@@ -18,12 +18,14 @@ const Title = "handout\n"
 type Kind int
 
 const (
-	// Task has the numbers queue, priority, times handed out, attempts and
-	// token (of the last lease), and the texts key and payload. The n-th one
-	// of a journal is the task n.
+	// Task has the numbers queue, priority, done (0 or 1), times handed out,
+	// attempts and token (of the last lease), and the texts key and payload.
+	// The n-th one of a journal is the task n.
 	Task Kind = iota
 	// Lease has the numbers task and attempts: the task is handed out once more.
 	Lease
+	// Done has the number task: it was completed.
+	Done
 	// end has the number sum: what comes ahead of it, back to the end before, is whole.
 	end
 )
@@ -36,15 +38,16 @@ var kinds = [...]struct {
 	numbers []int
 	texts   []int
 }{
-	Task:  {'T', []int{1, 1, 1, 1, 8}, []int{1 + api.MaxKey, 1 + api.MaxPayload}},
+	Task:  {'T', []int{1, 1, 1, 1, 1, 8}, []int{1 + api.MaxKey, 1 + api.MaxPayload}},
 	Lease: {'L', []int{2, 1}, nil},
+	Done:  {'D', []int{2}, nil},
 	end:   {'E', []int{4}, nil},
 }
 
 // Record has the fields of its kind; those that the kind has not are left out.
 type Record struct {
 	Kind    Kind
-	Numbers [5]int
+	Numbers [6]int
 	Texts   [2]string
 }
 
