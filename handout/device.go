@@ -9,6 +9,9 @@ type Device struct {
 	safe  int // how many of the bytes, the first ones, a crash leaves in any case
 	fuse  int // changes that the fuse lets through still; below 0: there is no fuse
 	dead  bool
+	// How many changes were done: so a service sees whether others than itself
+	// have written here.
+	changes int
 	// The service that is open here, if one is. Here, because a crash and
 	// the next Open close it.
 	opened *Service
@@ -109,8 +112,9 @@ func (d *Device) isDead() bool {
 	return d == nil || d.dead
 }
 
-// burn says whether the fuse lets one more change through. It is asked last,
-// because a change that is refused for another reason burns nothing off (P5).
+// burn says whether the fuse lets one more change through, which is done then.
+// It is asked last, because a change that is refused for another reason burns
+// nothing off (P5).
 func (d *Device) burn() bool {
 	if d.fuse == 0 {
 		d.dead = true
@@ -119,5 +123,6 @@ func (d *Device) burn() bool {
 	if d.fuse > 0 {
 		d.fuse--
 	}
+	d.changes++
 	return true
 }

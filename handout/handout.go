@@ -11,6 +11,7 @@ import (
 // Service hands tasks out.
 type Service struct {
 	device  *Device
+	changes int // of the device, as far as this service knows of them
 	config  api.Config
 	now     int          // ticks that have gone by
 	tasks   []task       // in the order of their numbers, from 1 on
@@ -36,12 +37,8 @@ func Open(d *Device, c api.Config) (*Service, api.Errno) {
 	if !ok {
 		return nil, api.ErrBroken
 	}
-	if whole < len(text) {
-		// What would be written behind a torn call could not be read. (There
-		// is room: the calls that are whole take no less than their tasks.)
-		if e := d.Swap(gather(s.sendAll)); e != api.OK {
-			return nil, e
-		}
+	if e := s.settle(whole < len(text)); e != api.OK {
+		return nil, e
 	}
 	d.opened = s
 	return s, api.OK

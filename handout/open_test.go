@@ -104,7 +104,7 @@ func TestP6RecordsThatCannotBeAreBroken(t *testing.T) {
 	for _, records := range [][]journal.Record{
 		{taskRecord(4, 9, 0, 2, 5, 2, "k")}, {taskRecord(3, 10, 0, 2, 5, 2, "k")}, {taskRecord(3, 9, 2, 2, 5, 2, "k")},
 		{taskRecord(3, 9, 1, 0, 5, 2, "k")}, {taskRecord(3, 9, 0, 6, 5, 6, "k")}, {taskRecord(3, 9, 0, 2, 0, 2, "k")},
-		{taskRecord(3, 9, 0, 2, 6, 2, "k")}, {taskRecord(3, 9, 0, 2, 5, 1, "k")}, {taskRecord(3, 9, 0, 2, 5, -1, "k")}, {taskRecord(3, 9, 0, 2, 5, 2, "")},
+		{taskRecord(3, 9, 0, 2, 6, 2, "k")}, {taskRecord(3, 9, 0, 2, 5, -1, "k")}, {taskRecord(3, 9, 0, 2, 5, 2, "")},
 		{leaseRecord(1, 5)}, {good, leaseRecord(0, 5)}, {good, leaseRecord(2, 5)}, {good, leaseRecord(1, 0)}, {good, leaseRecord(1, 6)},
 		{taskRecord(3, 9, 0, 2, 2, 2, "k"), leaseRecord(1, 5)}, {good, leaseRecord(1, 1), leaseRecord(1, 5)}, {done, leaseRecord(1, 5)},
 		{doneRecord(1)}, {good, doneRecord(0)}, {good, doneRecord(2)}, {fresh, doneRecord(1)}, {done, doneRecord(1)},

@@ -9,6 +9,7 @@ import (
 
 	"handout/api"
 	"handout/handout"
+	"handout/journal"
 )
 
 // modelTask and the others are the service as the document tells it, without
@@ -434,16 +435,56 @@ func (r *run) step() {
 	}
 }
 
+// newRun starts a run on a device with these bytes, which tell these tasks.
+func newRun(t *testing.T, seed, quota int, bytes string, tasks []modelTask) *run {
+	t.Helper()
+	random := rand.New(rand.NewPCG(uint64(seed), 1))
+	r := &run{t: t, random: random, quota: quota, device: newDevice(t, quota), leases: map[[2]int]int{}}
+	wantErrno(t, "Swap", r.device.Swap(bytes), api.OK)
+	c := r.config()
+	r.s, r.m = openOn(t, r.device, c), newModel(c, tasks, 0)
+	return r
+}
+
 // TestP6ToP15RandomRuns holds random runs, with crashes in the middle of
 // calls, against the model.
 func TestP6ToP15RandomRuns(t *testing.T) {
 	for seed := range 800 {
-		random := rand.New(rand.NewPCG(uint64(seed), 1))
-		quota := []int{150, 400, 900, 4000, api.MaxQuota}[seed%5]
-		r := &run{t: t, random: random, quota: quota, device: newDevice(t, quota), leases: map[[2]int]int{}}
-		c := r.config()
-		r.s, r.m = openOn(t, r.device, c), newModel(c, nil, 0)
+		r := newRun(t, seed, []int{150, 400, 900, 4000, api.MaxQuota}[seed%5], "", nil)
 		for range 250 {
+			r.step()
+		}
+	}
+}
+
+// othersTask draws a task that somebody else has written, and what it is in the model.
+func othersTask(random *rand.Rand) (journal.Record, modelTask) {
+	n := random.IntN
+	key, priority, queue, done, times, attempts := string("abcde"[n(5)]), n(10), n(4), 0, n(6), 1+n(5)
+	token := []int{times, 5 + n(9), math.MaxInt - n(5), n(math.MaxInt)}[n(4)]
+	m := modelTask{Task: api.Task{Queue: queue, Key: key, Priority: priority, Payload: "payload"}, times: times, attemptsOfLease: attempts}
+	switch {
+	case times > 0 && n(4) == 0:
+		done, m.where = 1, api.Done
+	case times > 0:
+		m = m.leaseOver()
+	}
+	return taskRecord(queue, priority, done, times, attempts, token, key), m
+}
+
+// TestP6ToP15RandomRunsOnOthersBytes begins with tasks that no service took.
+func TestP6ToP15RandomRunsOnOthersBytes(t *testing.T) {
+	for seed := range 400 {
+		random := rand.New(rand.NewPCG(uint64(seed), 2))
+		var records []journal.Record
+		var tasks []modelTask
+		for range 1 + random.IntN(8) {
+			record, task := othersTask(random)
+			records, tasks = append(records, record), append(tasks, task)
+		}
+		bytes := journalOf(records...)
+		r := newRun(t, seed, len(bytes)+[]int{0, 3, 100, 1000}[seed%4], bytes, tasks)
+		for range 150 {
 			r.step()
 		}
 	}

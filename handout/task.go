@@ -1,6 +1,8 @@
 package handout
 
 import (
+	"math"
+
 	"handout/api"
 	"handout/journal"
 )
@@ -11,7 +13,7 @@ type task struct {
 	where    int
 	times    int // that it was handed out
 	attempts int // by the config under which it was handed out last
-	token    int // of its last lease: they are counted, from 1 on
+	token    int // of its last lease; 0: there was none
 	bondEnd  int // the tick that ends the bond
 	leaseEnd int // the tick that ends the lease
 }
@@ -41,7 +43,9 @@ func (t *task) lease(attempts int) {
 	t.where = api.Leased
 	t.times++
 	t.attempts = attempts
-	t.token++
+	// The tokens are counted. Behind the greatest number comes 1, because what
+	// somebody else has written on a device may tell any number as the last one.
+	t.token = t.token%math.MaxInt + 1
 }
 
 // endLease puts the task where it comes when its lease is over (P11).
@@ -84,5 +88,5 @@ func taskOf(r journal.Record) (task, bool) {
 	once := min(times, 1) // only what was handed out is done, or has had attempts
 	return t, isTask(t.Task) && t.Queue < api.MaxQueues &&
 		done <= once && times <= api.MaxAttempts &&
-		within(attempts, once, api.MaxAttempts) && times <= token
+		within(attempts, once, api.MaxAttempts) && token >= 0
 }

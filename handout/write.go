@@ -14,15 +14,42 @@ func (s *Service) write(do func(pieces chan<- string)) api.Errno {
 	if text == "" {
 		return api.OK
 	}
-	e := s.device.Append(text)
-	if e == api.ErrFull {
-		// There is room for the tasks as they stand: Enqueue has seen to that.
+	e := s.put(text)
+	s.changes = s.device.changes
+	return e
+}
+
+// put puts the writing of a call behind the others; if it has no place there,
+// all tasks as they stand in the place of all.
+func (s *Service) put(text string) api.Errno {
+	e := api.ErrFull
+	// Behind what somebody else has written it could not be read.
+	if s.changes == s.device.changes {
+		e = s.device.Append(text)
+	}
+	switch e {
+	case api.OK:
+		return s.device.Sync()
+	case api.ErrFull:
+		// There is room for the tasks: Enqueue has seen to that.
 		return s.device.Swap(gather(s.sendAll))
 	}
-	if e != api.OK {
-		return e
+	return e
+}
+
+// settle leaves on the device what was read from it, so that what is written
+// behind it can be read too, and no crash takes anything of it away.
+func (s *Service) settle(torn bool) api.Errno {
+	e := api.OK
+	if torn {
+		// There is room: the calls that are whole take no less than their tasks.
+		e = s.device.Swap(gather(s.sendAll))
+	} else if s.device.safe < len(s.device.bytes) {
+		// Services sync what they write, but others may not.
+		e = s.device.Sync()
 	}
-	return s.device.Sync()
+	s.changes = s.device.changes
+	return e
 }
 
 // gather joins what is sent to the writing of one call.
