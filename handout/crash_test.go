@@ -105,6 +105,47 @@ func dyingLeases() []dying {
 	}
 }
 
+// dyingRequeues are those that die when a dead task comes back.
+func dyingRequeues() []dying {
+	requeue := func(s *handout.Service, _ int) api.Errno { return s.Requeue(1) }
+	requeueNone := func(s *handout.Service, _ int) api.Errno {
+		if s.Requeue(2) != api.ErrTask {
+			return -1
+		}
+		ids, e := s.Buried(0)
+		if len(ids) != 1 {
+			return -1
+		}
+		return e
+	}
+	twice := wideConfig()
+	twice.Attempts = 2
+	all, p, dead := api.MaxQuota, api.Pending, api.Dead
+	old := [][2]int{{dead, 2}, {p, 1}}
+	return []dying{
+		{"Requeue of what nobody waits for", twice, all, oneDead, requeue, old, [][2]int{{p, 0}, {p, 1}}, false},
+		{"Requeue on a device that is full", twice, fullQuota, oneDead, requeue, old, [][2]int{{p, 0}, {p, 1}}, false},
+		{"Requeue of what is handed out", twice, all, oneDeadAndPolls, requeue, old, [][2]int{{p, 1}, {p, 1}}, false},
+		{"Requeue of what is handed out on a full device", twice, fullQuota, oneDeadAndPolls, requeue, old, [][2]int{{p, 1}, {p, 1}}, false},
+		{"Requeue of what is not dead, and Buried", twice, all, oneDead, requeueNone, old, old, true},
+	}
+}
+
+// oneDead takes two tasks: the first one dies by a config of two attempts, the second one is leased.
+func oneDead(t *testing.T, s *handout.Service) int {
+	wantErrno(t, "Fail", s.Fail(1, oneLeased(t, s)), api.OK)
+	wantErrno(t, "Fail", s.Fail(1, leased(t, s, 1, 2)), api.OK)
+	wantTaken(t, s, 2, api.Task{Key: "b"})
+	return leased(t, s, 2, 1)
+}
+
+func oneDeadAndPolls(t *testing.T, s *handout.Service) int {
+	token := oneDead(t, s)
+	wantTicket(t, s, 4, 0, 0, 0)
+	wantTicket(t, s, 5, 0, 0, 0)
+	return token
+}
+
 // device has the quota for this run.
 func (c dying) device(t *testing.T) *handout.Device {
 	t.Helper()
@@ -131,7 +172,7 @@ func has(s *handout.Service, tasks [][2]int) bool {
 // TestP15DiedWithinACall lets the device die at every change of a call, and
 // keeps of what was not safe every number of bytes.
 func TestP15DiedWithinACall(t *testing.T) {
-	for _, c := range slices.Concat(dyings(), dyingLeases()) {
+	for _, c := range slices.Concat(dyings(), dyingLeases(), dyingRequeues()) {
 		seen := map[api.Errno]int{}
 		for fuse := range 4 {
 			for keep := -1; keep < 100; keep++ {
@@ -216,17 +257,26 @@ func TestP15CrashesWithinOpen(t *testing.T) {
 // each byte more comes back as much, or what one call more has done.
 func TestP15EveryBeginningOfTheBytes(t *testing.T) {
 	d := newDevice(t, api.MaxQuota)
-	s := openOn(t, d, wideConfig())
-	var after [][3]int
+	s := openOn(t, d, lastOf(wideConfig()))
+	after := [][4]int{{}}
+	then := func() { after = append(after, tasksOf(s)) }
+	grant := func(ticket, id int) int { return wantGrant(t, s, ticket, id, 1, greatTask().Payload) }
 	for id := 1; id <= 3; id++ {
-		after = append(after, tasksOf(s))
 		wantTaken(t, s, id, greatTask())
-		after = append(after, tasksOf(s))
-		wantTicket(t, s, id, 0, 0, api.MaxWorker)
-		after = append(after, tasksOf(s))
-		wantErrno(t, "Complete", s.Complete(id, wantGrant(t, s, id, id, 1, greatTask().Payload)), api.OK)
+		then()
+		wantTicket(t, s, 3*id-2, 0, 0, api.MaxWorker)
+		then()
+		wantErrno(t, "Fail", s.Fail(id, grant(3*id-2, id)), api.OK)
+		wantRequeued(t, s, id)
+		then()
+		wantTicket(t, s, 3*id-1, 0, 0, 0)
+		then()
+		wantErrno(t, "Fail", s.Fail(id, grant(3*id-1, id)), api.OK)
+		wantTicket(t, s, 3*id, 0, 0, 0)
+		wantRequeued(t, s, id) // it is handed out within this call, so that the next service has it as before
+		wantErrno(t, "Complete", s.Complete(id, grant(3*id, id)), api.OK)
+		then()
 	}
-	after = append(after, tasksOf(s))
 	bytes, _ := d.Read()
 	call := 0
 	for cut := range len(bytes) + 1 {
@@ -245,9 +295,11 @@ func TestP15EveryBeginningOfTheBytes(t *testing.T) {
 	}
 }
 
-// tasksOf counts a service's tasks: all, how often they were handed out, and those that are done.
-func tasksOf(s *handout.Service) [3]int {
-	var n [3]int
+// tasksOf counts a service's tasks: all, how often they were handed out, those
+// that are done, and those that are dead (as every leased one is behind a crash,
+// by a config of one attempt).
+func tasksOf(s *handout.Service) [4]int {
+	var n [4]int
 	for id := 1; ; id++ {
 		where, times, e := s.State(id)
 		if e != api.OK {
@@ -255,8 +307,11 @@ func tasksOf(s *handout.Service) [3]int {
 		}
 		n[0]++
 		n[1] += times
-		if where == api.Done {
+		switch where {
+		case api.Done:
 			n[2]++
+		case api.Dead, api.Leased:
+			n[3]++
 		}
 	}
 }

@@ -6,7 +6,7 @@ import (
 	"handout/api"
 )
 
-// TestExamples goes through the worked numbers of the document, as far as they are built.
+// TestExamples goes through the worked numbers of the document.
 func TestExamples(t *testing.T) {
 	c := api.Config{Queues: 1, Parts: 1, Rate: 1, Burst: 2, Attempts: 2, Lease: 3, Wait: 5, Bond: 2}
 	d := newDevice(t, api.MaxQuota)
@@ -38,6 +38,9 @@ func TestExamples(t *testing.T) {
 	wantGrant(t, s, 4, 3, 2, "z")
 	wantTick(t, s, 3)
 	wantState(t, s, 3, api.Dead, 2)
+	wantBuried(t, s, 0, 3)
+	wantRequeued(t, s, 3)
+	wantState(t, s, 3, api.Pending, 0)
 	wantNoTicket(t, s, 1, 0, 7, api.ErrQueue)
 	wantNoTicket(t, s, 0, 1, 7, api.ErrArg)
 	wantNoGrant(t, s, 9, api.ErrTicket)
@@ -51,6 +54,6 @@ func TestExamples(t *testing.T) {
 	s = openOn(t, d, c)
 	wantState(t, s, 1, api.Done, 1)
 	wantState(t, s, 2, api.Dead, 2)
-	wantState(t, s, 3, api.Dead, 2) // not requeued here
+	wantState(t, s, 3, api.Pending, 0)
 	wantState(t, s, 4, api.Pending, 0)
 }

@@ -84,6 +84,10 @@ func (s *Service) hasTask(id int) bool {
 	return within(id, 1, len(s.tasks))
 }
 
+func (s *Service) isBuried(id int) bool {
+	return s.hasTask(id) && s.task(id).where == api.Dead
+}
+
 func (s *Service) task(id int) *task {
 	return &s.tasks[id-1]
 }
@@ -228,7 +232,32 @@ func (s *Service) Tick(n int) api.Errno {
 }
 
 // Buried tells the dead tasks of a queue (P14).
-func (s *Service) Buried(queue int) ([]int, api.Errno) { return nil, s.ready() }
+func (s *Service) Buried(queue int) ([]int, api.Errno) {
+	if e := s.ready(); e != api.OK {
+		return nil, e
+	}
+	if !s.hasQueue(queue) {
+		return nil, api.ErrQueue
+	}
+	var ids []int
+	for id := 1; id <= len(s.tasks); id++ {
+		if s.isBuried(id) && s.task(id).Queue == queue {
+			ids = append(ids, id)
+		}
+	}
+	return ids, api.OK
+}
 
 // Requeue brings a dead task back (P14).
-func (s *Service) Requeue(id int) api.Errno { return s.ready() }
+func (s *Service) Requeue(id int) api.Errno {
+	if e := s.ready(); e != api.OK {
+		return e
+	}
+	if !s.isBuried(id) {
+		return api.ErrTask
+	}
+	return s.write(func(pieces chan<- string) {
+		s.bringBack(id, pieces)
+		s.serve(pieces)
+	})
+}

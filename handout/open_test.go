@@ -98,17 +98,25 @@ func doneRecord(id int) journal.Record {
 	return journal.Record{Kind: journal.Done, Numbers: [6]int{id}}
 }
 
+func againRecord(id int) journal.Record {
+	return journal.Record{Kind: journal.Again, Numbers: [6]int{id}}
+}
+
 // TestP6RecordsThatCannotBeAreBroken: whole records, but no service's.
 func TestP6RecordsThatCannotBeAreBroken(t *testing.T) {
 	good, fresh, done := taskRecord(3, 9, 0, 2, 5, 2, "12345678"), taskRecord(3, 9, 0, 0, 0, 0, "k"), taskRecord(3, 9, 1, 1, 5, 1, "k")
+	dead := taskRecord(3, 9, 0, 2, 2, 2, "k")
 	for _, records := range [][]journal.Record{
 		{taskRecord(4, 9, 0, 2, 5, 2, "k")}, {taskRecord(3, 10, 0, 2, 5, 2, "k")}, {taskRecord(3, 9, 2, 2, 5, 2, "k")},
 		{taskRecord(3, 9, 1, 0, 5, 2, "k")}, {taskRecord(3, 9, 0, 6, 5, 6, "k")}, {taskRecord(3, 9, 0, 2, 0, 2, "k")},
 		{taskRecord(3, 9, 0, 2, 6, 2, "k")}, {taskRecord(3, 9, 0, 2, 5, -1, "k")}, {taskRecord(3, 9, 0, 2, 5, 2, "")},
 		{leaseRecord(1, 5)}, {good, leaseRecord(0, 5)}, {good, leaseRecord(2, 5)}, {good, leaseRecord(1, 0)}, {good, leaseRecord(1, 6)},
-		{taskRecord(3, 9, 0, 2, 2, 2, "k"), leaseRecord(1, 5)}, {good, leaseRecord(1, 1), leaseRecord(1, 5)}, {done, leaseRecord(1, 5)},
+		{dead, leaseRecord(1, 5)}, {good, leaseRecord(1, 1), leaseRecord(1, 5)}, {done, leaseRecord(1, 5)},
 		{doneRecord(1)}, {good, doneRecord(0)}, {good, doneRecord(2)}, {fresh, doneRecord(1)}, {done, doneRecord(1)},
 		{good, doneRecord(1), doneRecord(1)}, {good, doneRecord(1), leaseRecord(1, 5)},
+		{againRecord(1)}, {dead, againRecord(0)}, {dead, againRecord(2)}, {fresh, againRecord(1)}, {good, againRecord(1)}, {done, againRecord(1)},
+		{dead, doneRecord(1), againRecord(1)}, {dead, againRecord(1), againRecord(1)}, {dead, againRecord(1), doneRecord(1)},
+		{dead, againRecord(1), leaseRecord(1, 2), againRecord(1)},
 		slices.Repeat([]journal.Record{good}, api.MaxTasks+1),
 	} {
 		d := newDevice(t, api.MaxQuota)
@@ -116,13 +124,18 @@ func TestP6RecordsThatCannotBeAreBroken(t *testing.T) {
 		wantNoService(t, fmt.Sprintf("%+v", records), d, goodConfig(), api.ErrBroken)
 	}
 	d := newDevice(t, api.MaxQuota)
-	records := append(slices.Repeat([]journal.Record{good}, api.MaxTasks), leaseRecord(300, 1), doneRecord(299), leaseRecord(298, 3), doneRecord(298))
-	records[1], records[2] = fresh, done
+	records := append(slices.Repeat([]journal.Record{good}, api.MaxTasks), leaseRecord(300, 1), doneRecord(299), leaseRecord(298, 3), doneRecord(298),
+		againRecord(4), leaseRecord(297, 1), againRecord(297), leaseRecord(297, 1), againRecord(5), leaseRecord(5, 2), againRecord(6), leaseRecord(6, 1), doneRecord(6))
+	records[1], records[2], records[3], records[4], records[5] = fresh, done, dead, dead, dead
 	wantErrno(t, "Swap", d.Swap(journalOf(records...)), api.OK)
 	s := openOn(t, d, goodConfig())
 	wantState(t, s, 1, api.Pending, 2)
 	wantState(t, s, 2, api.Pending, 0)
 	wantState(t, s, 3, api.Done, 1)
+	wantState(t, s, 4, api.Pending, 0)
+	wantState(t, s, 5, api.Pending, 1)
+	wantState(t, s, 6, api.Done, 1)
+	wantState(t, s, 297, api.Dead, 1)
 	wantState(t, s, 298, api.Done, 3)
 	wantState(t, s, 299, api.Done, 2)
 	wantState(t, s, 300, api.Dead, 3)
@@ -131,13 +144,13 @@ func TestP6RecordsThatCannotBeAreBroken(t *testing.T) {
 // TestP6OtherBytes holds Open to the answers that it may give, and the service to its calls.
 func TestP6OtherBytes(t *testing.T) {
 	own := newDevice(t, 1000)
-	s := openOn(t, own, wideConfig())
-	wantTaken(t, s, 1, api.Task{Key: "k", Payload: "payload"})
-	wantTicket(t, s, 1, 0, 0, 0)
-	wantErrno(t, "Complete", s.Complete(1, wantGrant(t, s, 1, 1, 1, "payload")), api.OK)
+	s := openOn(t, own, lastOf(wideConfig()))
+	bury(t, s, "k")
+	wantRequeued(t, s, 1)
+	wantErrno(t, "Complete", s.Complete(1, leased(t, s, 1, 1)), api.OK)
 	bytes, _ := own.Read()
 	for i := range len(bytes) {
-		for _, b := range []byte{0, 1, 5, 6, 127, 128, 255, 'T', 'L', 'D', 'E', bytes[i] + 1, bytes[i] - 1} {
+		for _, b := range []byte{0, 1, 5, 6, 127, 128, 255, 'T', 'L', 'D', 'A', 'E', bytes[i] + 1, bytes[i] - 1} {
 			d := newDevice(t, 1000)
 			d.Swap(bytes[:i] + string([]byte{b}) + bytes[i+1:])
 			s, e := handout.Open(d, goodConfig())
@@ -146,6 +159,8 @@ func TestP6OtherBytes(t *testing.T) {
 			}
 			s.Poll(0, 0, 0)
 			s.Enqueue(api.Task{Key: "k"})
+			s.Requeue(1)
+			s.Buried(0)
 		}
 	}
 }
@@ -283,7 +298,7 @@ func TestP7WhatOutlastsACrash(t *testing.T) {
 	s := openOn(t, d, wideConfig())
 	tasks := []api.Task{
 		{Key: "\x00", Payload: ""}, {Queue: 3, Key: "12345678", Priority: 9, Payload: strings.Repeat("\xff", 40), Worker: 99},
-		{Queue: 1, Key: "\xff\xfe", Priority: 4, Payload: "é世\x00"}, {Queue: 1, Key: "T", Priority: 5, Payload: "TLDE"},
+		{Queue: 1, Key: "\xff\xfe", Priority: 4, Payload: "é世\x00"}, {Queue: 1, Key: "T", Priority: 5, Payload: "TLDAE"},
 	}
 	for i, x := range tasks {
 		wantTaken(t, s, i+1, x)
@@ -297,7 +312,7 @@ func TestP7WhatOutlastsACrash(t *testing.T) {
 		wantState(t, s, i+1, api.Pending, 0)
 	}
 	wantTicket(t, s, 1, 1, 0, 0)
-	wantGrant(t, s, 1, 4, 1, "TLDE")
+	wantGrant(t, s, 1, 4, 1, "TLDAE")
 	wantTicket(t, s, 2, 1, 0, 0)
 	wantGrant(t, s, 2, 3, 1, "é世\x00")
 	wantTicket(t, s, 3, 3, 0, 7) // the bond to worker 99 has not outlasted the crash

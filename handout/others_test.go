@@ -58,8 +58,17 @@ func TestP10TokensWhateverStandsOnTheDevice(t *testing.T) {
 		}
 		opened++
 		tokens := map[int]int{}
-		where, times := wantSoundTask(t, what, s, 1)
-		for ; where == api.Pending; where, times = wantSoundTask(t, what, s, 1) {
+		for back := 0; ; {
+			where, times := wantSoundTask(t, what, s, 1)
+			if where == api.Dead && back < 2 {
+				back++
+				wantRequeued(t, s, 1)
+				wantState(t, s, 1, api.Pending, 0)
+				continue
+			}
+			if where != api.Pending {
+				break
+			}
 			ticket, _ := s.Poll(r.Numbers[0], 0, 0)
 			g, e := s.Finish(ticket)
 			if g.ID != 1 || g.Token < 1 || g.Attempt != times+1 || e != api.OK || tokens[g.Token] > 0 {
@@ -90,12 +99,15 @@ func TestP10TokensBehindTheGreatestNumber(t *testing.T) {
 			continue
 		}
 		tokens := map[int]int{}
-		for times := 1; times <= api.MaxAttempts; times++ {
-			token := leased(t, s, 1, times)
-			tokens[token]++
-			wantErrno(t, "Fail", s.Fail(1, token), api.OK)
+		for range 3 {
+			for times := 1; times <= api.MaxAttempts; times++ {
+				token := leased(t, s, 1, times)
+				tokens[token]++
+				wantErrno(t, "Fail", s.Fail(1, token), api.OK)
+			}
+			wantRequeued(t, s, 1)
 		}
-		if len(tokens) != api.MaxAttempts || e != api.OK {
+		if len(tokens) != 3*api.MaxAttempts || e != api.OK {
 			t.Errorf("behind the token %d come %v (%d)", last, tokens, e)
 		}
 	}
@@ -136,14 +148,14 @@ func TestP7OthersWriteUnderAService(t *testing.T) {
 		return func(d *handout.Device) { d.Swap(text) }
 	}
 	for i, others := range []func(d *handout.Device){
-		behind(""), behind("T"), behind("L"), behind("D"), behind("E"), behind("?"), behind(journal.Title), behind(whole), behind(whole[:70]),
+		behind(""), behind("T"), behind("L"), behind("D"), behind("A"), behind("E"), behind("?"), behind(journal.Title), behind(whole), behind(whole[:70]),
 		swap(""), swap("T"), swap("?"), swap(journal.Title), swap(journal.Title + "T"), swap(whole), swap(whole[:70]),
 		func(d *handout.Device) { d.Sync() },
 		func(d *handout.Device) { d.Append("T"); d.Sync() },
 	} {
 		d := newDevice(t, api.MaxQuota)
 		c := wideConfig()
-		c.Lease = 1
+		c.Attempts, c.Lease = 2, 1
 		s := openOn(t, d, c)
 		others(d)
 		wantTaken(t, s, 1, api.Task{Key: "a", Payload: "x"})
@@ -157,10 +169,15 @@ func TestP7OthersWriteUnderAService(t *testing.T) {
 		wantErrno(t, "Fail", s.Fail(1, token), api.OK) // to the second of these polls
 		others(d)
 		wantErrno(t, "Complete", s.Complete(1, wantGrant(t, s, 3, 1, 2, "x")), api.OK)
+		wantTick(t, s, 1)
+		leased(t, s, 2, 2)
+		wantTick(t, s, 1)
+		others(d)
+		wantRequeued(t, s, 2)
 		d.Crash(0)
 		s = openOn(t, d, c)
 		wantState(t, s, 1, api.Done, 2)
-		wantState(t, s, 2, api.Pending, 1)
+		wantState(t, s, 2, api.Pending, 0)
 		wantNoTask(t, s, 3)
 		if t.Failed() {
 			t.Fatalf("with the writing %d of others", i)

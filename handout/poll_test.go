@@ -116,6 +116,10 @@ func TestWaysNoGoroutineIsLeft(t *testing.T) {
 				s.Fail(g.ID, g.Token)
 				s.Complete(g.ID, g.Token+1)
 			}
+			ids, _ := s.Buried(0)
+			for _, id := range ids {
+				s.Requeue(id)
+			}
 		}
 		s.Tick(api.MaxTicks)
 	}

@@ -101,3 +101,10 @@ func (s *Service) complete(id int, pieces chan<- string) {
 	r := journal.Record{Kind: journal.Done, Numbers: [6]int{id}}
 	pieces <- r.Line()
 }
+
+// bringBack lets a dead task start again.
+func (s *Service) bringBack(id int, pieces chan<- string) {
+	s.task(id).startAgain()
+	r := journal.Record{Kind: journal.Again, Numbers: [6]int{id}}
+	pieces <- r.Line()
+}

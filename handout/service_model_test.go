@@ -222,6 +222,30 @@ func (m *modelService) tick(n int) api.Errno {
 	return api.OK
 }
 
+func (m *modelService) buried(queue int) ([]int, api.Errno) {
+	if queue < 0 || queue >= m.Queues {
+		return nil, api.ErrQueue
+	}
+	var ids []int
+	for i, t := range m.tasks {
+		if t.where == api.Dead && t.Queue == queue {
+			ids = append(ids, i+1)
+		}
+	}
+	return ids, api.OK
+}
+
+func (m *modelService) requeue(id int) api.Errno {
+	if id < 1 || id > len(m.tasks) || m.tasks[id-1].where != api.Dead {
+		return api.ErrTask
+	}
+	t := m.tasks[id-1].Task
+	t.Worker = 0
+	m.tasks[id-1] = modelTask{Task: t}
+	m.serve()
+	return api.OK
+}
+
 // like says whether a service tells the model's tasks.
 func (m *modelService) like(s *handout.Service) bool {
 	for i, t := range m.tasks {
@@ -248,14 +272,14 @@ type run struct {
 func (r *run) config() api.Config {
 	n := r.random.IntN
 	return api.Config{
-		Queues: 1 + n(4), Parts: 1 + n(3), Rate: n(10), Burst: []int{1, 2, 5, 20}[n(4)],
-		Attempts: 1 + n(5), Lease: []int{1, 2, 5, 100}[n(4)], Wait: []int{0, 1, 4, 100}[n(4)], Bond: []int{0, 1, 3, 100}[n(4)],
+		Queues: []int{1, 1, 2, 3, 4, 4}[n(6)], Parts: []int{1, 1, 2, 3}[n(4)], Rate: n(10), Burst: []int{1, 2, 5, 20}[n(4)],
+		Attempts: []int{1, 1, 1, 2, 3, 5}[n(6)], Lease: []int{1, 2, 5, 100}[n(4)], Wait: []int{0, 1, 4, 100}[n(4)], Bond: []int{0, 1, 3, 100}[n(4)],
 	}
 }
 
 func (r *run) task() api.Task {
 	n := r.random.IntN
-	t := api.Task{Queue: n(4), Key: string("abcde"[n(5)]), Priority: n(3), Payload: "p"[:n(2)], Worker: max(0, n(6)-3)}
+	t := api.Task{Queue: n(r.m.Queues), Key: string("abcde"[n(5)]), Priority: n(3), Payload: "p"[:n(2)], Worker: max(0, n(6)-3)}
 	switch n(30) {
 	case 0:
 		t.Priority = []int{-1, 10, 9}[n(3)]
@@ -264,7 +288,7 @@ func (r *run) task() api.Task {
 	case 2:
 		t.Key = []string{"", "123456789", "12345678"}[n(3)]
 	case 3:
-		t.Queue = []int{-1, 4, 9}[n(3)]
+		t.Queue = []int{-1, r.m.Queues, 9}[n(3)]
 	}
 	return t
 }
@@ -351,7 +375,7 @@ func (r *run) finish() {
 func (r *run) grant() (int, int) {
 	id := r.random.IntN(len(r.m.tasks)+3) - 1
 	if r.random.IntN(10) == 0 {
-		return id, []int{0, -1, math.MaxInt, math.MinInt}[r.random.IntN(4)]
+		return id, []int{0, -1, -math.MaxInt, math.MinInt}[r.random.IntN(4)]
 	}
 	var tokens []int
 	for of := range r.leases {
@@ -401,7 +425,10 @@ func (r *run) enqueue() {
 
 func (r *run) poll() {
 	n := r.random.IntN
-	queue, part, worker := n(5)-n(2), n(4)-n(2), n(4)-n(2)
+	queue, part, worker := n(r.m.Queues), n(r.m.Parts), n(4)
+	if n(5) == 0 {
+		queue, part, worker = n(5)-n(2), n(4)-n(2), n(4)-n(2)
+	}
 	r.change("Poll",
 		func() (int, api.Errno) { return r.s.Poll(queue, part, worker) },
 		func(m *modelService) (int, api.Errno) { return m.poll(queue, part, worker) })
@@ -414,9 +441,38 @@ func (r *run) tick() {
 		func(m *modelService) (int, api.Errno) { return 0, m.tick(n) })
 }
 
+// buried changes nothing on the device either, nor does the list that it tells.
+func (r *run) buried() {
+	queue := r.random.IntN(6) - 1
+	r.told = append(r.told, "Buried")
+	want, f := r.m.buried(queue)
+	r.device.Fuse(0)
+	for range 2 {
+		got, e := r.s.Buried(queue)
+		if !slices.Equal(got, want) || e != f {
+			r.t.Fatalf("%v(%d) = %v, %d, want %v, %d", r.told, queue, got, e, want, f)
+		}
+		clear(got[:cap(got)])
+	}
+	r.device.Fuse(-1)
+}
+
+// requeue draws a dead task, mostly.
+func (r *run) requeue() {
+	id := r.random.IntN(len(r.m.tasks)+3) - 1
+	for range 10 {
+		if where, _, _ := r.s.State(id); where != api.Dead {
+			id = r.random.IntN(len(r.m.tasks)+3) - 1
+		}
+	}
+	r.change("Requeue",
+		func() (int, api.Errno) { return 0, r.s.Requeue(id) },
+		func(m *modelService) (int, api.Errno) { return 0, m.requeue(id) })
+}
+
 func (r *run) step() {
 	n := r.random.IntN
-	switch k := n(40); {
+	switch k := n(46); {
 	case k < 9:
 		r.enqueue()
 	case k < 19:
@@ -427,6 +483,10 @@ func (r *run) step() {
 		r.byToken()
 	case k < 39:
 		r.tick()
+	case k < 43:
+		r.requeue()
+	case k < 45:
+		r.buried()
 	case n(2) == 0:
 		r.reopen(n(2) == 0)
 	}
@@ -449,7 +509,7 @@ func newRun(t *testing.T, seed, quota int, bytes string, tasks []modelTask) *run
 // TestP6ToP15RandomRuns holds random runs, with crashes in the middle of
 // calls, against the model.
 func TestP6ToP15RandomRuns(t *testing.T) {
-	for seed := range 800 {
+	for seed := range 1200 {
 		r := newRun(t, seed, []int{150, 400, 900, 4000, api.MaxQuota}[seed%5], "", nil)
 		for range 250 {
 			r.step()
@@ -474,7 +534,7 @@ func othersTask(random *rand.Rand) (journal.Record, modelTask) {
 
 // TestP6ToP15RandomRunsOnOthersBytes begins with tasks that no service took.
 func TestP6ToP15RandomRunsOnOthersBytes(t *testing.T) {
-	for seed := range 400 {
+	for seed := range 600 {
 		random := rand.New(rand.NewPCG(uint64(seed), 2))
 		var records []journal.Record
 		var tasks []modelTask

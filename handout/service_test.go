@@ -161,7 +161,12 @@ func calls() map[string]func(*handout.Service) (api.Errno, bool) {
 			ids, e := s.Buried(0)
 			return e, len(ids) != 0
 		},
-		"Requeue": func(s *handout.Service) (api.Errno, bool) { return s.Requeue(1), false },
+		"Buried of no queue": func(s *handout.Service) (api.Errno, bool) {
+			ids, e := s.Buried(-1)
+			return e, len(ids) != 0
+		},
+		"Requeue":            func(s *handout.Service) (api.Errno, bool) { return s.Requeue(1), false },
+		"Requeue of no task": func(s *handout.Service) (api.Errno, bool) { return s.Requeue(99), false },
 	}
 }
 

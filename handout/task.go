@@ -56,6 +56,14 @@ func (t *task) endLease() {
 	}
 }
 
+// startAgain makes the task one that was never handed out and is bound to
+// nobody. Its token stays: no lease to come may have one from before.
+func (t *task) startAgain() {
+	t.where = api.Pending
+	t.times = 0
+	t.Worker = 0
+}
+
 // record is the task as it is to be found behind a crash. Neither its bond nor
 // its lease outlasts that, so they are not in it.
 func (t *task) record() journal.Record {

@@ -95,8 +95,10 @@ func (s *Service) replay(r journal.Record) bool {
 		return ok && len(s.tasks) <= api.MaxTasks
 	case journal.Lease:
 		return s.replayLease(r.Numbers[0], r.Numbers[1])
-	default:
+	case journal.Done:
 		return s.replayDone(r.Numbers[0])
+	default:
+		return s.replayAgain(r.Numbers[0])
 	}
 }
 
@@ -114,5 +116,13 @@ func (s *Service) replayDone(id int) bool {
 		return false
 	}
 	s.task(id).where = api.Done
+	return true
+}
+
+func (s *Service) replayAgain(id int) bool {
+	if !s.isBuried(id) {
+		return false
+	}
+	s.task(id).startAgain()
 	return true
 }

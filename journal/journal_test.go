@@ -33,6 +33,10 @@ func someDone(id int) Record {
 	return Record{Kind: Done, Numbers: [6]int{id}}
 }
 
+func someAgain(id int) Record {
+	return Record{Kind: Again, Numbers: [6]int{id}}
+}
+
 // scan reads a text and keeps the records.
 func scan(text string) ([]Record, int, bool) {
 	var records []Record
@@ -45,9 +49,9 @@ func scan(text string) ([]Record, int, bool) {
 
 func TestRecordsComeBack(t *testing.T) {
 	records := []Record{
-		someTask(), someLease(1), someLease(api.MaxTasks), someDone(1), someDone(api.MaxTasks),
+		someTask(), someLease(1), someLease(api.MaxTasks), someDone(1), someDone(api.MaxTasks), someAgain(1), someAgain(api.MaxTasks),
 		{Task, [6]int{}, [2]string{"k", ""}},
-		{Task, [6]int{0, 0, 0, 0, 0, math.MaxInt}, [2]string{"\x00", "TLDE\x00"}},
+		{Task, [6]int{0, 0, 0, 0, 0, math.MaxInt}, [2]string{"\x00", "TLDAE\x00"}},
 	}
 	text := Title
 	for _, r := range records {
@@ -94,13 +98,13 @@ func TestSizeIsThatOfAllTasks(t *testing.T) {
 func TestScanLeavesAtWhatIsNotWhole(t *testing.T) {
 	one := write(Title, someTask().Line(), someTask().Line())
 	two := write(someLease(1).Line())
-	three := write(someTask().Line(), someLease(2).Line(), someDone(3).Line())
+	three := write(someTask().Line(), someLease(2).Line(), someDone(3).Line(), someAgain(2).Line())
 	text := one + two + three
 	for cut := range len(text) + 1 {
 		want, records := 0, 0
 		switch {
 		case cut == len(text):
-			want, records = cut, 6
+			want, records = cut, 7
 		case cut >= len(one+two):
 			want, records = len(one+two), 3
 		case cut >= len(one):
@@ -152,7 +156,7 @@ func TestScanAsksWhoTakes(t *testing.T) {
 
 // TestScanEnds puts every byte in the place of every byte of a journal.
 func TestScanEnds(t *testing.T) {
-	text := write(Title, someTask().Line()) + write(someLease(1).Line()) + write(someDone(1).Line())
+	text := write(Title, someTask().Line()) + write(someLease(1).Line()) + write(someDone(1).Line(), someAgain(1).Line())
 	for i := range len(text) {
 		for b := range 256 {
 			if _, whole, ok := scan(text[:i] + string([]byte{byte(b)}) + text[i+1:]); !ok && whole != 0 || whole > len(text) {

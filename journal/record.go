@@ -26,6 +26,8 @@ const (
 	Lease
 	// Done has the number task: it was completed.
 	Done
+	// Again has the number task: it was dead, and has been handed out 0 times now.
+	Again
 	// end has the number sum: what comes ahead of it, back to the end before, is whole.
 	end
 )
@@ -41,6 +43,7 @@ var kinds = [...]struct {
 	Task:  {'T', []int{1, 1, 1, 1, 1, 8}, []int{1 + api.MaxKey, 1 + api.MaxPayload}},
 	Lease: {'L', []int{2, 1}, nil},
 	Done:  {'D', []int{2}, nil},
+	Again: {'A', []int{2}, nil},
 	end:   {'E', []int{4}, nil},
 }
 
